@@ -7,6 +7,7 @@ import (
 
 	"tearoff/api"
 	"tearoff/octet"
+	"tearoff/rows"
 )
 
 // count: the bytes 1, 2, 3 and so on, n of them.
@@ -16,25 +17,6 @@ func count(n int) []byte {
 		out[i] = byte(i + 1)
 	}
 	return out
-}
-
-// guarded: the bytes of b, with spare room behind them that may be looked at by full.
-func guarded(b []byte) []byte {
-	out := append(make([]byte, 0, len(b)+4), b...)
-	copy(out[len(b):cap(out)], "room")
-	return out
-}
-
-// full: b with its spare room.
-func full(b []byte) string {
-	return string(b[:cap(b)])
-}
-
-// flip: every byte of b is made another one.
-func flip(b []byte) {
-	for i := range b {
-		b[i] ^= 255
-	}
 }
 
 // P1.1: Put.
@@ -125,27 +107,27 @@ func TestCat(t *testing.T) {
 // P1.1: Cat answers in memory of its own, and leaves what it is handed as it is.
 func TestCatKeepsApart(t *testing.T) {
 	for _, other := range []string{"", "yz"} {
-		a, b := guarded([]byte("abc")), guarded([]byte(other))
+		a, b := rows.Guarded([]byte("abc")), rows.Guarded([]byte(other))
 		got := octet.Cat(a, b)
-		if full(a) != "abcroom" || full(b) != other+"room" {
-			t.Errorf("P1.1: Cat wrote over its arguments: %q, %q", full(a), full(b))
+		if rows.Full(a) != "abcroom" || rows.Full(b) != other+"room" {
+			t.Errorf("P1.1: Cat wrote over its arguments: %q, %q", rows.Full(a), rows.Full(b))
 		}
-		flip(a)
-		flip(b)
+		rows.Flip(a)
+		rows.Flip(b)
 		if string(got) != "abc"+other {
 			t.Errorf("P1.1: Cat's answer hangs on its arguments: %q", got)
 		}
-		flip(a)
-		flip(got)
-		if full(a) != "abcroom" {
-			t.Errorf("P1.1: Cat's argument hangs on its answer: %q", full(a))
+		rows.Flip(a)
+		rows.Flip(got)
+		if rows.Full(a) != "abcroom" {
+			t.Errorf("P1.1: Cat's argument hangs on its answer: %q", rows.Full(a))
 		}
 		_ = append(got, "spare"...)
-		if full(a) != "abcroom" {
-			t.Errorf("P1.1: Cat's answer has the spare room of its argument: %q", full(a))
+		if rows.Full(a) != "abcroom" {
+			t.Errorf("P1.1: Cat's answer has the spare room of its argument: %q", rows.Full(a))
 		}
 	}
-	part := guarded([]byte("one"))
+	part := rows.Guarded([]byte("one"))
 	if got := octet.Cat(part); &got[0] == &part[0] {
 		t.Error("P1.1: Cat of one part is that part")
 	}
@@ -179,7 +161,7 @@ func TestFill(t *testing.T) {
 		}
 	}
 	a := octet.Fill(1, 4)
-	flip(a)
+	rows.Flip(a)
 	if got := octet.Fill(1, 4); !bytes.Equal(got, []byte{1, 1, 1, 1}) {
 		t.Errorf("P1.1: Fill hangs on what it answered ahead: %v", got)
 	}
@@ -204,8 +186,8 @@ func TestSame(t *testing.T) {
 		{[]byte{1, 2, 3}, []byte{1, 2, 0}, false},
 		{[]byte{1, 2}, []byte{2, 1}, false},
 		{count(500), count(500), true},
-		{guarded([]byte("abc")), []byte("abc"), true},
-		{guarded([]byte("abc")), []byte("abcr"), false},
+		{rows.Guarded([]byte("abc")), []byte("abc"), true},
+		{rows.Guarded([]byte("abc")), []byte("abcr"), false},
 	} {
 		if got := octet.Same(c.a, c.b); got != c.want {
 			t.Errorf("P1.2: Same(%v, %v): %v", c.a, c.b, got)
@@ -226,14 +208,14 @@ func TestXor(t *testing.T) {
 		{[]byte{1, 2, 3}, []byte{1, 2, 3}, []byte{0, 0, 0}},
 		{[]byte{240, 15, 255}, []byte{15, 15, 0}, []byte{255, 0, 255}},
 	} {
-		a, b := guarded(c.a), guarded(c.b)
+		a, b := rows.Guarded(c.a), rows.Guarded(c.b)
 		got := octet.Xor(a, b)
 		if !bytes.Equal(got, c.want) {
 			t.Errorf("P1.2: Xor(%v, %v): %v, not %v", c.a, c.b, got, c.want)
 		}
-		flip(got[:cap(got)])
-		if full(a) != string(c.a)+"room" || full(b) != string(c.b)+"room" {
-			t.Errorf("P1.2: Xor(%v, %v) shares its arguments: %q, %q", c.a, c.b, full(a), full(b))
+		rows.Flip(got[:cap(got)])
+		if rows.Full(a) != string(c.a)+"room" || rows.Full(b) != string(c.b)+"room" {
+			t.Errorf("P1.2: Xor(%v, %v) shares its arguments: %q, %q", c.a, c.b, rows.Full(a), rows.Full(b))
 		}
 	}
 }
@@ -306,7 +288,7 @@ func TestCutRefuses(t *testing.T) {
 
 // P1.2: Cut doesn't look behind the end, where a row has spare room.
 func TestCutSpareRoom(t *testing.T) {
-	b := guarded([]byte("abcd"))
+	b := rows.Guarded([]byte("abcd"))
 	if got, e := octet.Cut(b, 5); e != api.Short || len(got) != 0 {
 		t.Errorf("P1.2: %q, %v", got, e)
 	}
@@ -317,25 +299,25 @@ func TestCutSpareRoom(t *testing.T) {
 
 // P1.2: each part has memory of its own, and what is handed in stays as it is.
 func TestCutKeepsApart(t *testing.T) {
-	b, sizes := guarded([]byte("abcdef")), []int{2, 0, 3, 1}
+	b, sizes := rows.Guarded([]byte("abcdef")), []int{2, 0, 3, 1}
 	got, e := octet.Cut(b, sizes...)
 	if e != api.OK || len(got) != 4 {
 		t.Fatalf("P1.2: %q, %v", got, e)
 	}
-	flip(b)
+	rows.Flip(b)
 	if string(got[0]) != "ab" || string(got[2]) != "cde" || string(got[3]) != "f" {
 		t.Errorf("P1.2: Cut's parts hang on its argument: %q", got)
 	}
-	flip(b)
+	rows.Flip(b)
 	for _, p := range got {
 		_ = append(p, "behind"...)
 	}
-	if string(got[0]) != "ab" || string(got[2]) != "cde" || string(got[3]) != "f" || full(b) != "abcdefroom" {
-		t.Errorf("P1.2: a part has room in another one: %q, %q", got, full(b))
+	if string(got[0]) != "ab" || string(got[2]) != "cde" || string(got[3]) != "f" || rows.Full(b) != "abcdefroom" {
+		t.Errorf("P1.2: a part has room in another one: %q, %q", got, rows.Full(b))
 	}
-	flip(got[2])
-	if string(got[0]) != "ab" || string(got[3]) != "f" || full(b) != "abcdefroom" {
-		t.Errorf("P1.2: a part shares memory: %q, %q", got, full(b))
+	rows.Flip(got[2])
+	if string(got[0]) != "ab" || string(got[3]) != "f" || rows.Full(b) != "abcdefroom" {
+		t.Errorf("P1.2: a part shares memory: %q, %q", got, rows.Full(b))
 	}
 	if len(sizes) != 4 || sizes[0] != 2 || sizes[1] != 0 || sizes[2] != 3 || sizes[3] != 1 {
 		t.Errorf("P1.2: Cut changed the sizes: %v", sizes)
