@@ -44,17 +44,6 @@ var published = []struct {
 // lengths are those at which a text's end falls otherwise into its last block, and some greater ones.
 var lengths = []int{0, 1, 2, 54, 55, 56, 57, 62, 63, 64, 65, 118, 119, 120, 121, 127, 128, 129, 183, 184, 191, 192, 193, 1000, 4095, 4096, api.MaxText - 1, api.MaxText, api.MaxText + 1}
 
-// row: n bytes that aren't alike, and that start marks.
-func row(n int, start byte) []byte {
-	out := make([]byte, n)
-	x := uint32(start) + 1
-	for i := range out {
-		x = x*1664525 + 1013904223
-		out[i] = byte(x >> 24)
-	}
-	return out
-}
-
 // known: the sum of b, from elsewhere.
 func known(b []byte) []byte {
 	s := sha256.Sum256(b)
@@ -76,17 +65,6 @@ func expect(t *testing.T, what string, got, text []byte) {
 	if want := known(text); !bytes.Equal(got, want) {
 		t.Errorf("%s: the sum of %v bytes is %x, not %x", what, len(text), got, want)
 	}
-}
-
-// primes: the first n of them.
-func primes(n int) []int64 {
-	var out []int64
-	for p := int64(2); len(out) < n; p++ {
-		if big.NewInt(p).ProbablyPrime(0) {
-			out = append(out, p)
-		}
-	}
-	return out
 }
 
 // squareBits: the first 32 bits behind the point of the square root of p.
@@ -111,7 +89,7 @@ func cubeBits(p int64) uint32 {
 // first: the state ahead of all blocks.
 func first() [8]uint32 {
 	var out [8]uint32
-	for i, p := range primes(8) {
+	for i, p := range rows.Primes(8) {
 		out[i] = squareBits(p)
 	}
 	return out
@@ -156,11 +134,11 @@ func TestOnePublished(t *testing.T) {
 // P2.1: One, of texts of every length around the ends of blocks, and of long ones.
 func TestOneLengths(t *testing.T) {
 	for n := range 5 * blockLen {
-		b := row(n, 1)
+		b := rows.Mixed(n, 1)
 		expect(t, "P2.1: One", sha2.One(b), b)
 	}
 	for _, n := range lengths {
-		for _, b := range [][]byte{row(n, 2), make([]byte, n), bytes.Repeat([]byte{128}, n), bytes.Repeat([]byte{255}, n)} {
+		for _, b := range [][]byte{rows.Mixed(n, 2), make([]byte, n), bytes.Repeat([]byte{128}, n), bytes.Repeat([]byte{255}, n)} {
 			expect(t, "P2.1: One", sha2.One(b), b)
 		}
 	}
@@ -171,7 +149,7 @@ func TestCountIsLong(t *testing.T) {
 	if testing.Short() {
 		t.Skip("long")
 	}
-	part := row(1<<24, 3)
+	part := rows.Mixed(1<<24, 3)
 	h, other := sha2.New(), sha256.New()
 	for range 33 {
 		h.Write(part)
@@ -185,7 +163,7 @@ func TestCountIsLong(t *testing.T) {
 // P2.1: One looks at nothing but its text, changes nothing of it, and answers memory of its own.
 func TestOneKeepsApart(t *testing.T) {
 	for _, n := range []int{1, 31, 32, 55, 56, 60, 63, 64, 65, 128} {
-		b := rows.Guarded(row(n, 4))
+		b := rows.Guarded(rows.Mixed(n, 4))
 		was := rows.Full(b)
 		got := sha2.One(b)
 		if rows.Full(b) != was {
@@ -226,7 +204,7 @@ func TestTurnIsSum(t *testing.T) {
 // P2.1: Turn, from any state, the wrap of its sums among them; what is handed in stays as it was.
 func TestTurnAny(t *testing.T) {
 	words := func(start byte) (out [8]uint32) {
-		b := row(32, start)
+		b := rows.Mixed(32, start)
 		for i := range out {
 			out[i] = binary.BigEndian.Uint32(b[4*i:])
 		}
@@ -242,7 +220,7 @@ func TestTurnAny(t *testing.T) {
 		one[i], high[i] = 1, 1<<31
 		states = append(states, one, high)
 	}
-	blocks := [][blockLen]byte{{}, [blockLen]byte(bytes.Repeat([]byte{255}, blockLen)), [blockLen]byte(row(blockLen, 7))}
+	blocks := [][blockLen]byte{{}, [blockLen]byte(bytes.Repeat([]byte{255}, blockLen)), [blockLen]byte(rows.Mixed(blockLen, 7))}
 	for i := range blockLen {
 		var one [blockLen]byte
 		one[i] = 1
@@ -267,7 +245,7 @@ func TestTurnAny(t *testing.T) {
 
 // P2.1: K, at every place and outside of it.
 func TestK(t *testing.T) {
-	for i, p := range primes(64) {
+	for i, p := range rows.Primes(64) {
 		if got, want := sha2.K(i), cubeBits(p); got != want {
 			t.Errorf("P2.1: K(%v): %#x, not %#x", i, got, want)
 		}
@@ -291,7 +269,7 @@ func TestNew(t *testing.T) {
 
 // P2.2: Sum is that of all that was written, each time that it is asked for, and can be gone on with.
 func TestSumBetween(t *testing.T) {
-	b := row(6*blockLen, 8)
+	b := rows.Mixed(6*blockLen, 8)
 	for step := 1; step < 2*blockLen; step++ {
 		h := sha2.New()
 		for at := 0; at+step <= len(b); at += step {
@@ -306,7 +284,7 @@ func TestSumBetween(t *testing.T) {
 // P2.2: what was answered may be written over, and doesn't change behind the call.
 func TestSumKeepsApart(t *testing.T) {
 	for _, n := range []int{0, 3, 32, 55, 56, 63, 64, 65, 128} {
-		b := row(n, 9)
+		b := rows.Mixed(n, 9)
 		h := sha2.New()
 		h.Write(b)
 		one := h.Sum()
@@ -327,7 +305,7 @@ func TestSumKeepsApart(t *testing.T) {
 // P2.2: what is written isn't kept, nor changed, nor its spare room looked at.
 func TestWriteKeepsApart(t *testing.T) {
 	for _, n := range []int{1, 32, 55, 56, 60, 63, 64, 65, 100, 127, 128, 130} {
-		text := row(n, 10)
+		text := rows.Mixed(n, 10)
 		b := rows.Guarded(text)
 		was := rows.Full(b)
 		h := sha2.New()
@@ -346,7 +324,7 @@ func TestWriteKeepsApart(t *testing.T) {
 
 // P2.2: two texts that are summed side by side don't touch each other.
 func TestSideBySide(t *testing.T) {
-	a, b := row(500, 11), row(500, 12)
+	a, b := rows.Mixed(500, 11), rows.Mixed(500, 12)
 	for step := 1; step <= 130; step += 3 {
 		one, two := sha2.New(), sha2.New()
 		for at := 0; at+step <= len(a); at += step {
@@ -366,7 +344,7 @@ func TestSideBySide(t *testing.T) {
 // P2.3: in whatever two parts a text is written, none among them, its sum is the same.
 func TestTwoParts(t *testing.T) {
 	for _, n := range []int{0, 1, 55, 56, 63, 64, 65, 119, 120, 127, 128, 129, 200} {
-		b := row(n, 13)
+		b := rows.Mixed(n, 13)
 		for cut := range n + 1 {
 			expect(t, "P2.3: two parts", written(b[:cut], b[cut:]), b)
 			expect(t, "P2.3: two parts and none between", written(nil, b[:cut], nil, []byte{}, b[cut:], nil), b)
@@ -376,7 +354,7 @@ func TestTwoParts(t *testing.T) {
 
 // P2.3: likewise in parts of every one size, and in parts of sizes that grow and fall.
 func TestManyParts(t *testing.T) {
-	b := row(1000, 14)
+	b := rows.Mixed(1000, 14)
 	for size := 1; size <= 300; size++ {
 		var alike, growing [][]byte
 		for rest := b; len(rest) > 0; {
