@@ -13,7 +13,6 @@ import (
 	"tearoff/api"
 	"tearoff/chain"
 	"tearoff/rows"
-	"tearoff/sets"
 	"tearoff/sha2"
 	"tearoff/shake"
 )
@@ -33,34 +32,11 @@ var (
 	noSizes = []int{0, 1, -1, 2, 16, 20, 23, 25, 28, 31, 33, 48, 64, 136, -24, -32, 256 + 24, 256 + 32, api.MaxText, api.MaxText + 1, 1<<16 + 24, 1<<16 + 32, 1<<32 + 24, 1<<32 + 32, math.MaxInt, math.MinInt, math.MinInt + 24, math.MinInt + 32}
 )
 
-// places are numbers q, each of whose bytes tells in one of them.
-var places = []uint32{0, 1, 2, 255, 256, 258, 0xffff, 0x10000, 0x1020304, 1 << 31, math.MaxUint32 - 1, math.MaxUint32}
-
-// words are numbers d, each of whose bytes tells in one of them.
-var words = []uint16{0, 1, 255, 256, 258, 264, 0x8080, 0x8081, 0x8181, 0x8282, 0x8383, 0xfffd, 0xffff}
-
 // far are numbers that are none of a chain's or a step's, near to some that are or not: by their last bytes some would be.
 var far = []int{-1, -2, -255, -256, -1 << 16, math.MinInt32, math.MinInt32 + 1, math.MinInt, math.MinInt + 1, 1 << 9, 1 << 15, 1<<16 - 1, 1 << 16, 1<<16 + 1, math.MaxInt32, 1 << 31, 1 << 32, 1<<32 + 1, math.MaxInt - 1, math.MaxInt}
 
 // name is the one that tests take where nothing hangs on which.
 var name = []byte("0123456789abcdef")
-
-// everySet: all sets of one-time signatures.
-func everySet(t *testing.T) []api.Ots {
-	t.Helper()
-	var out []api.Ots
-	for _, code := range sets.OtsCodes() {
-		o, e := sets.Ots(code)
-		if e != api.OK {
-			t.Fatalf("Ots(%v): %v", code, e)
-		}
-		out = append(out, o)
-	}
-	if len(out) != 16 {
-		t.Fatalf("%v sets, not 16", len(out))
-	}
-	return out
-}
 
 // partText: what is summed of a part, laid out here.
 func partText(name []byte, q uint32, d uint16, texts ...[]byte) []byte {
@@ -118,7 +94,7 @@ func parted(b []byte, size func(i int) int) [][]byte {
 
 // P9.2: the chapter's example: up from 3 to 3: x. (Of sets whose width knows a 3.)
 func TestExample(t *testing.T) {
-	for _, o := range everySet(t) {
+	for _, o := range rows.Sets() {
 		x := rows.Mixed(o.N, 1)
 		if o.W == 1 {
 			nothing(t, chain.Up(o, name, 1, 2, 3, 3, x), "P9.2: Up from 3 to 3, of width 1, set", o.Code)
@@ -227,8 +203,8 @@ func TestPart(t *testing.T) {
 	many := parted(rows.Mixed(700, 7), func(int) int { return 3 })
 	for kind := range kinds {
 		for _, n := range sizes {
-			for _, q := range places {
-				for _, d := range words {
+			for _, q := range rows.Places() {
+				for _, d := range rows.Words() {
 					for _, texts := range [][][]byte{nil, {}, {nil}, {nil, {}}, {[]byte("a")}, {[]byte("a"), nil, []byte("bc")}, many} {
 						expectSum(t, "P9.1: Part", kind, n, chain.Part(kind, n, name, q, d, texts...), partText(name, q, d, texts...))
 					}
@@ -260,7 +236,7 @@ func TestNames(t *testing.T) {
 	for n := range 80 {
 		lengths = append(lengths, n)
 	}
-	for _, o := range everySet(t) {
+	for _, o := range rows.Sets() {
 		x := rows.Mixed(o.N, 9)
 		for _, length := range lengths {
 			for _, nm := range [][]byte{rows.Guarded(rows.Mixed(length, 10)), make([]byte, length), bytes.Repeat([]byte{255}, length)} {
@@ -293,7 +269,7 @@ func expectStep(t *testing.T, o api.Ots, q uint32, i, j int, x []byte) {
 
 // P9.2: steps of every set, of all its chains, at all j: beyond what its width allows, too.
 func TestStep(t *testing.T) {
-	for _, o := range everySet(t) {
+	for _, o := range rows.Sets() {
 		x := rows.Mixed(o.N, 11)
 		for i := range o.P {
 			for _, j := range []int{0, 1, 1 << o.W / 2, 1<<o.W - 1, 255} {
@@ -305,7 +281,7 @@ func TestStep(t *testing.T) {
 				expectStep(t, o, 258, i, j, x)
 			}
 		}
-		for _, q := range places {
+		for _, q := range rows.Places() {
 			for _, x := range [][]byte{make([]byte, o.N), bytes.Repeat([]byte{255}, o.N), rows.Guarded(rows.Mixed(o.N, 12))} {
 				expectStep(t, o, q, o.P-1, 255, x)
 			}
@@ -313,38 +289,9 @@ func TestStep(t *testing.T) {
 	}
 }
 
-// noSets: those that differ from one of the sets in a single number, and some that differ in all.
-func noSets(t *testing.T) []api.Ots {
-	t.Helper()
-	out := []api.Ots{{}, {Code: math.MaxUint32}, {N: 24}, {N: 32, P: 1, W: 1}, {N: 32, P: 67, W: 4, Shift: 4}, {Code: 17, N: 32, P: 67, W: 4, Shift: 4}, {Code: 3, Kind: -1, N: -32, W: -4, P: -67, Shift: -4}}
-	for _, o := range everySet(t) {
-		for _, code := range []uint32{0, 17, 18, o.Code + 1, o.Code - 1, o.Code + 4, o.Code + 8, o.Code + 256, o.Code + 1<<16, o.Code | 0xf0000000, o.Code | 1<<31} {
-			x := o
-			x.Code = code
-			out = append(out, x)
-		}
-		for _, field := range []func(*api.Ots) *int{
-			func(o *api.Ots) *int { return &o.Kind },
-			func(o *api.Ots) *int { return &o.N },
-			func(o *api.Ots) *int { return &o.W },
-			func(o *api.Ots) *int { return &o.P },
-			func(o *api.Ots) *int { return &o.Shift },
-		} {
-			was := *field(&o)
-			for _, v := range []int{was + 1, was - 1, was + 2, was + 8, was - 8, 2 * was, -was, ^was, was + 256, was + 1<<16, was + 1<<32, was + math.MinInt, math.MaxInt, 0, 1, 2, 4, 8, 24, 32, 67, 265} {
-				if x := o; v != was {
-					*field(&x) = v
-					out = append(out, x)
-				}
-			}
-		}
-	}
-	return out
-}
-
 // P9.2: nothing of what is no set.
 func TestNoSet(t *testing.T) {
-	for _, o := range noSets(t) {
+	for _, o := range rows.NoSets() {
 		for _, n := range []int{0, 23, 24, 25, 32, 33} {
 			x := rows.Mixed(n, 13)
 			nothing(t, chain.Step(o, name, 1, 0, 0, x), "P9.2: Step, no set", o)
@@ -356,7 +303,7 @@ func TestNoSet(t *testing.T) {
 
 // P9.2: nothing of a chain that a set hasn't; something of its first and its last one.
 func TestNoChain(t *testing.T) {
-	for _, o := range everySet(t) {
+	for _, o := range rows.Sets() {
 		x := rows.Mixed(o.N, 14)
 		none := append([]int{-o.P, 1<<16 + o.P - 1, 1<<32 + o.P - 1, math.MinInt + o.P - 1}, far...)
 		for i := range 300 {
@@ -376,7 +323,7 @@ func TestNoChain(t *testing.T) {
 
 // P9.2: nothing of a step at a j that isn't 0 to 255.
 func TestNoStep(t *testing.T) {
-	for _, o := range everySet(t) {
+	for _, o := range rows.Sets() {
 		x := rows.Mixed(o.N, 15)
 		none := slices.Clone(far)
 		for j := range 300 {
@@ -390,7 +337,7 @@ func TestNoStep(t *testing.T) {
 
 // P9.2: nothing of an x that hasn't N bytes.
 func TestNoX(t *testing.T) {
-	for _, o := range everySet(t) {
+	for _, o := range rows.Sets() {
 		lengths := []int{256, 256 + o.N, 1<<16 + o.N}
 		for n := range 100 {
 			lengths = append(lengths, n)
@@ -424,7 +371,7 @@ func heights(o api.Ots) []int {
 
 // P9.2: x gone up by no step, by one, by some, by all, from each height to each other one above.
 func TestUp(t *testing.T) {
-	for _, o := range everySet(t) {
+	for _, o := range rows.Sets() {
 		x := rows.Mixed(o.N, 17)
 		for _, i := range []int{0, 1, o.P - 1} {
 			for _, from := range heights(o) {
@@ -437,7 +384,7 @@ func TestUp(t *testing.T) {
 				}
 			}
 		}
-		for _, q := range places {
+		for _, q := range rows.Places() {
 			expect(t, "P9.2: Up, by its place", chain.Up(o, name, q, 1, 0, 1<<o.W-1, x), risen(o, name, q, 1, 0, 1<<o.W-1, x))
 		}
 		for i := range o.P {
@@ -448,7 +395,7 @@ func TestUp(t *testing.T) {
 
 // P9.2: gone up is stepped, each time of what the step ahead told.
 func TestUpIsSteps(t *testing.T) {
-	for _, o := range everySet(t) {
+	for _, o := range rows.Sets() {
 		x := rows.Mixed(o.N, 18)
 		y := bytes.Clone(x)
 		for to := range 1 << o.W {
@@ -460,7 +407,7 @@ func TestUpIsSteps(t *testing.T) {
 
 // P9.2: nothing of what goes down, begins below 0, or ends above what the width allows.
 func TestUpRefused(t *testing.T) {
-	for _, o := range everySet(t) {
+	for _, o := range rows.Sets() {
 		x := rows.Mixed(o.N, 19)
 		most := 1<<o.W - 1
 		froms := append([]int{0, 1, most - 1, most, most + 1}, far...)
@@ -485,7 +432,7 @@ func TestUpRefused(t *testing.T) {
 
 // P9.3: gone up in two goes is gone up in one, of every set, by all heights a, b and c.
 func TestTwoGoes(t *testing.T) {
-	for _, o := range everySet(t) {
+	for _, o := range rows.Sets() {
 		x := rows.Mixed(o.N, 20)
 		for _, a := range heights(o) {
 			for _, b := range heights(o) {
@@ -509,7 +456,7 @@ func TestTwoGoes(t *testing.T) {
 
 // P9.1, P9.2: a refused call leaves nothing behind.
 func TestAfterRefused(t *testing.T) {
-	for _, o := range everySet(t) {
+	for _, o := range rows.Sets() {
 		x := rows.Mixed(o.N, 21)
 		for range 3 {
 			nothing(t, chain.Sum(2, o.N, x), "P9.1: no kind")
@@ -526,7 +473,7 @@ func TestAfterRefused(t *testing.T) {
 
 // P9.1, P9.2: what was handed in stays as it was, its spare room too, and isn't shared nor kept.
 func TestKeepsApart(t *testing.T) {
-	for _, o := range everySet(t) {
+	for _, o := range rows.Sets() {
 		top := 1<<o.W - 1
 		for what, call := range map[string]func(name, x []byte) []byte{
 			"Sum":            func(name, x []byte) []byte { return chain.Sum(o.Kind, o.N, name, x) },
@@ -550,24 +497,9 @@ func TestKeepsApart(t *testing.T) {
 // apart tells where a call changes its name or its x, or where its answer shares memory with them or with a later one.
 func apart(t *testing.T, what string, o api.Ots, call func(name, x []byte) []byte) {
 	t.Helper()
-	nm, x := rows.Guarded(rows.Mixed(16, 22)), rows.Guarded(rows.Mixed(o.N, 23))
-	wasName, wasX := rows.Full(nm), rows.Full(x)
-	same := func() bool { return rows.Full(nm) == wasName && rows.Full(x) == wasX }
-	got := call(nm, x)
-	kept := bytes.Clone(got)
-	if !same() || !bytes.Equal(kept, call(bytes.Clone(nm), bytes.Clone(x))) {
-		t.Errorf("P9: %v, set %v, changed what was handed in, or hangs on its spare room", what, o.Code)
-	}
-	again := call(nm, x)
-	rows.Flip(again[:cap(again)])
-	if !same() || !bytes.Equal(got, kept) || !bytes.Equal(call(nm, x), kept) {
-		t.Errorf("P9: %v, set %v, shares its answer", what, o.Code)
-	}
-	rows.Flip(nm[:cap(nm)])
-	rows.Flip(x[:cap(x)])
-	call(nm, x)
-	if !bytes.Equal(got, kept) {
-		t.Errorf("P9: the answer of %v, set %v, hangs on what was written over", what, o.Code)
+	how := rows.Apart(func(in [][]byte) []byte { return call(in[0], in[1]) }, rows.Mixed(16, 22), rows.Mixed(o.N, 23))
+	if how != "" {
+		t.Errorf("P9: %v, set %v: %v", what, o.Code, how)
 	}
 }
 
@@ -596,7 +528,7 @@ func TestListsStay(t *testing.T) {
 // P9.1, P9.2: a name and texts that share memory are taken as they stand, each up to its own end.
 func TestShared(t *testing.T) {
 	b := rows.Mixed(64, 24)
-	for _, o := range everySet(t) {
+	for _, o := range rows.Sets() {
 		nm, x := b[:16], b[8:8+o.N]
 		expectSum(t, "P9.1: Sum, of parts that share memory", o.Kind, o.N, chain.Sum(o.Kind, o.N, nm, x), slices.Concat(nm, x))
 		expectSum(t, "P9.1: Part, of a name within a text", o.Kind, o.N, chain.Part(o.Kind, o.N, nm, 1, 2, x, nm), partText(nm, 1, 2, x, nm))

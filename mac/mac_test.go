@@ -368,27 +368,9 @@ func TestKeepsApart(t *testing.T) {
 // apart tells where a call changes its key or its text, or where its answer shares memory with them or with a later one.
 func apart(t *testing.T, name string, n int, call func(key, text []byte) []byte) {
 	t.Helper()
-	key, text := rows.Guarded(rows.Mixed(n, 19)), rows.Guarded(rows.Mixed(n+3, 20))
-	wasKey, wasText := rows.Full(key), rows.Full(text)
-	want := call(bytes.Clone(key), bytes.Clone(text))
-	got := call(key, text)
-	if rows.Full(key) != wasKey || rows.Full(text) != wasText {
-		t.Errorf("P6.1: %s changed a key or a text of %v bytes", name, n)
-	}
-	kept := bytes.Clone(got)
-	if !bytes.Equal(kept, want) {
-		t.Errorf("P6.1: %s hangs on spare room, %v bytes: %x, not %x", name, n, kept, want)
-	}
-	again := call(key, text)
-	rows.Flip(again[:cap(again)])
-	if rows.Full(key) != wasKey || rows.Full(text) != wasText || !bytes.Equal(got, kept) || !bytes.Equal(call(key, text), kept) {
-		t.Errorf("P6.1: %s shares its answer, %v bytes", name, n)
-	}
-	rows.Flip(key[:cap(key)])
-	rows.Flip(text[:cap(text)])
-	call(key, text)
-	if !bytes.Equal(got, kept) {
-		t.Errorf("P6.1: %s's answer hangs on what was written over, %v bytes", name, n)
+	how := rows.Apart(func(in [][]byte) []byte { return call(in[0], in[1]) }, rows.Mixed(n, 19), rows.Mixed(n+3, 20))
+	if how != "" {
+		t.Errorf("P6.1: %s, %v bytes: %v", name, n, how)
 	}
 }
 

@@ -1,4 +1,4 @@
-// Package rows holds what the tests of the layers have in common: rows of bytes, those among them that tell whether a call changed, kept or shared them, and the primes. No layer calls it.
+// Package rows holds what the tests of the layers have in common: rows of bytes, those among them that tell whether a call changed, kept or shared them, the primes, and the sets with the numbers that their sums hang on. No layer calls it.
 package rows
 
 // room is what lies behind a guarded row.
@@ -21,6 +21,51 @@ func Flip(b []byte) {
 	for i := range b {
 		b[i] ^= 255
 	}
+}
+
+// Apart: how a call fails to keep its answer apart from the rows that it is handed, and from its other answers; nothing, if it doesn't fail. The rows are handed in as copies, with spare room.
+func Apart(call func(in [][]byte) []byte, in ...[]byte) string {
+	bare, in := every(in, func(b []byte) []byte { return append(make([]byte, 0, len(b)), b...) }), every(in, Guarded)
+	was := whole(in)
+	got := call(in)
+	kept := string(got)
+	if whole(in) != was {
+		return "changes what is handed in"
+	}
+	if string(call(bare)) != kept {
+		return "hangs on spare room"
+	}
+	again := call(in)
+	Flip(again[:cap(again)])
+	if whole(in) != was || string(got) != kept || string(call(in)) != kept {
+		return "shares its answer"
+	}
+	for _, b := range in {
+		Flip(b[:cap(b)])
+	}
+	call(in)
+	if string(got) != kept {
+		return "hangs on what was written over"
+	}
+	return ""
+}
+
+// every: what is made of each row.
+func every(list [][]byte, do func(b []byte) []byte) [][]byte {
+	var out [][]byte
+	for _, b := range list {
+		out = append(out, do(b))
+	}
+	return out
+}
+
+// whole: all rows with their spare room.
+func whole(list [][]byte) string {
+	out := ""
+	for _, b := range list {
+		out += Full(b)
+	}
+	return out
 }
 
 // Mixed: n bytes that aren't alike, and that start marks.
