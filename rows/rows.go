@@ -50,6 +50,24 @@ func Apart(call func(in [][]byte) []byte, in ...[]byte) string {
 	return ""
 }
 
+// ApartList: how a call fails to keep each row of its answer apart, likewise, and from the other rows; nothing, if it doesn't fail.
+func ApartList(call func(in [][]byte) [][]byte, in ...[]byte) string {
+	got := call(every(in, Guarded))
+	for i := range got {
+		if how := Apart(func(in [][]byte) []byte { return call(in)[i] }, in...); how != "" {
+			return how
+		}
+	}
+	for i, b := range got {
+		was := whole(got[:i]) + whole(got[i+1:])
+		Flip(b[:cap(b)])
+		if whole(got[:i])+whole(got[i+1:]) != was {
+			return "shares rows of its answer"
+		}
+	}
+	return ""
+}
+
 // every: what is made of each row.
 func every(list [][]byte, do func(b []byte) []byte) [][]byte {
 	var out [][]byte

@@ -34,3 +34,25 @@ func TestApart(t *testing.T) {
 		}
 	}
 }
+
+// ApartList tells of each way in which a call can fail to keep the rows of its answer apart, and of none where it doesn't.
+func TestApartList(t *testing.T) {
+	for _, c := range []struct {
+		what, want string
+		call       func(in [][]byte) [][]byte
+	}{
+		{"copies", "", func(in [][]byte) [][]byte {
+			return [][]byte{bytes.Clone(in[0]), bytes.Clone(in[1]), bytes.Clone(in[1])}
+		}},
+		{"nothing", "", func([][]byte) [][]byte { return nil }},
+		{"the first row itself", "shares its answer", func(in [][]byte) [][]byte { return [][]byte{in[0], bytes.Clone(in[1])} }},
+		{"the last row itself", "shares its answer", func(in [][]byte) [][]byte { return [][]byte{bytes.Clone(in[0]), in[1]} }},
+		{"a row written over", "changes what is handed in", func(in [][]byte) [][]byte { in[1][0]++; return [][]byte{nil} }},
+		{"one row twice", "shares rows of its answer", func(in [][]byte) [][]byte { b := bytes.Clone(in[0]); return [][]byte{b, nil, b} }},
+		{"rows of one row", "shares rows of its answer", func(in [][]byte) [][]byte { b := bytes.Clone(in[0]); return [][]byte{b[:1], b[1:]} }},
+	} {
+		if got := rows.ApartList(c.call, []byte("abc"), []byte("de")); got != c.want {
+			t.Errorf("%v: %q, not %q", c.what, got, c.want)
+		}
+	}
+}
