@@ -236,7 +236,7 @@ func TestElsewhere(t *testing.T) {
 			otherWays(t, s, root, name, q, keys[q], way)
 			otherLeaves(t, s, root, name, q, keys, way)
 			for i := range name {
-				elsewhere(t, s, root, turned(name, i), q, keys[q], way, "a byte of the name", i)
+				elsewhere(t, s, root, rows.Turned(name, i), q, keys[q], way, "a byte of the name", i)
 			}
 			elsewhere(t, other(s), root, name, q, keys[q], way, "of the other kind")
 		}
@@ -248,7 +248,7 @@ func otherKeys(t *testing.T, s api.Tree, root, name []byte, q int, keys, way [][
 	t.Helper()
 	key := keys[q]
 	for i := range key {
-		elsewhere(t, s, root, name, q, turned(key, i), way, "a byte of the key", i)
+		elsewhere(t, s, root, name, q, rows.Turned(key, i), way, "a byte of the key", i)
 	}
 	for _, k := range [][]byte{nil, key[:s.N-1], key[1:], append(bytes.Clone(key), 0), append([]byte{0}, key...), way[0], root, name, keys[q^1], keys[leaves(s)-1-q]} {
 		elsewhere(t, s, root, name, q, k, way, "another key, bytes", len(k))
@@ -260,7 +260,7 @@ func otherWays(t *testing.T, s api.Tree, root, name []byte, q int, key []byte, w
 	t.Helper()
 	for h := range way {
 		for i := range way[h] {
-			elsewhere(t, s, root, name, q, key, with(way, h, turned(way[h], i)), "a byte of the way", h, i)
+			elsewhere(t, s, root, name, q, key, with(way, h, rows.Turned(way[h], i)), "a byte of the way", h, i)
 		}
 		for g := range h {
 			elsewhere(t, s, root, name, q, key, with(with(way, h, way[g]), g, way[h]), "two sums in each other's place", g, h)

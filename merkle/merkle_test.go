@@ -88,13 +88,6 @@ func some(count, n int, start byte) [][]byte {
 	return out
 }
 
-// turned: b with another byte at a place, in memory of its own.
-func turned(b []byte, at int) []byte {
-	out := bytes.Clone(b)
-	out[at] ^= 1
-	return out
-}
-
 // with: a list with another row at a place, in memory of its own.
 func with(list [][]byte, at int, b []byte) [][]byte {
 	out := slices.Clone(list)
@@ -392,11 +385,11 @@ func TestUnlike(t *testing.T) {
 		}
 		add(s, name, keys, "as it is")
 		for i := range name {
-			add(s, turned(name, i), keys, "a byte of the name", i)
+			add(s, rows.Turned(name, i), keys, "a byte of the name", i)
 		}
 		for q := range keys {
 			for i := range keys[q] {
-				add(s, name, with(keys, q, turned(keys[q], i)), "a byte of a key", q, i)
+				add(s, name, with(keys, q, rows.Turned(keys[q], i)), "a byte of a key", q, i)
 			}
 			add(s, name, with(keys, q, nil), "no key", q)
 			add(s, name, with(keys, q, append(bytes.Clone(keys[q]), 0)), "a key with a byte more", q)

@@ -186,37 +186,6 @@ func set(t *testing.T, code uint32) api.Ots {
 	return o
 }
 
-// seed: one that may be of a set, and that start marks.
-func seed(o api.Ots, start byte) api.Seed {
-	return api.Seed{Name: rows.Mixed(16, start), Secret: rows.Mixed(o.N, start+1)}
-}
-
-// seeds: some that may be of a set, noughts and ones among them, and with spare room.
-func seeds(o api.Ots) []api.Seed {
-	ones := func(n int) []byte { return bytes.Repeat([]byte{255}, n) }
-	return []api.Seed{
-		seed(o, 1),
-		{Name: make([]byte, 16), Secret: make([]byte, o.N)},
-		{Name: ones(16), Secret: ones(o.N)},
-		{Name: rows.Guarded(rows.Mixed(16, 3)), Secret: rows.Guarded(rows.Mixed(o.N, 4))},
-	}
-}
-
-// noSeeds: some that may not be of a set, by their name, their secret, or both.
-func noSeeds(o api.Ots) []api.Seed {
-	name, secret := rows.Mixed(16, 5), rows.Mixed(o.N, 6)
-	out := []api.Seed{{}, {Name: name}, {Secret: secret}, {Name: secret, Secret: name}, {Name: name[:15], Secret: secret[:o.N-1]}, {Name: name[:0], Secret: secret}, {Name: name, Secret: secret[:0]}}
-	for _, n := range []int{1, 8, 15, 17, 18, 24, 31, 32, 33, 256, 256 + 16, 1<<16 + 16} {
-		out = append(out, api.Seed{Name: rows.Mixed(n, 5), Secret: secret}, api.Seed{Name: append(make([]byte, 0, n+16), rows.Mixed(n, 5)...), Secret: secret})
-	}
-	for _, n := range []int{1, 16, 23, 24, 25, 31, 32, 33, 48, 64, o.N - 1, o.N + 1, 2 * o.N, 256 + o.N, 1<<16 + o.N} {
-		if n != o.N {
-			out = append(out, api.Seed{Name: name, Secret: rows.Mixed(n, 6)}, api.Seed{Name: name, Secret: append(make([]byte, 0, n+o.N), rows.Mixed(n, 6)...)})
-		}
-	}
-	return out
-}
-
 // someSets: sets of both kinds and sizes, and of all widths.
 func someSets(t *testing.T) []api.Ots {
 	t.Helper()
@@ -233,7 +202,7 @@ func TestExample(t *testing.T) {
 	if got := once.Size(o); got != 4+24*52 {
 		t.Errorf("P10.1: Size of the set 7: %v, not %v", got, 4+24*52)
 	}
-	if got := len(once.Sign(o, seed(o, 1), 0, nil)); got != 4+24*52 {
+	if got := len(once.Sign(o, rows.Seed(o.N, 1), 0, nil)); got != 4+24*52 {
 		t.Errorf("P10.1: a signature of the set 7: %v bytes, not %v", got, 4+24*52)
 	}
 }
@@ -244,7 +213,7 @@ func TestSize(t *testing.T) {
 		if got := once.Size(o); got != sizes[i] || got != 4+o.N*(o.P+1) {
 			t.Errorf("P10.1: Size of the set %v: %v, not %v", o.Code, got, sizes[i])
 		}
-		if got := len(once.Sign(o, seed(o, 1), 7, []byte("a text"))); got != sizes[i] {
+		if got := len(once.Sign(o, rows.Seed(o.N, 1), 7, []byte("a text"))); got != sizes[i] {
 			t.Errorf("P10.1: a signature of the set %v: %v bytes, not %v", o.Code, got, sizes[i])
 		}
 	}
@@ -267,12 +236,12 @@ func expectNone(t *testing.T, o api.Ots, s api.Seed) {
 // P10.1: May of every set, with seeds that may be of it, and that may not: nothing comes of those.
 func TestMaySeeds(t *testing.T) {
 	for _, o := range rows.Sets() {
-		for _, s := range seeds(o) {
+		for _, s := range rows.Seeds(o.N) {
 			if !once.May(o, s) {
 				t.Errorf("P10.1: not May(%v, %x, %x)", o, s.Name, s.Secret)
 			}
 		}
-		for _, s := range noSeeds(o) {
+		for _, s := range rows.NoSeeds(o.N) {
 			expectNone(t, o, s)
 		}
 		for n := range 100 {
@@ -293,7 +262,7 @@ func TestMayNoSets(t *testing.T) {
 			expectNone(t, o, api.Seed{Name: rows.Mixed(16, 9), Secret: rows.Mixed(n, 10)})
 		}
 		if o.N > 0 && o.N < 1000 {
-			expectNone(t, o, seed(o, 9))
+			expectNone(t, o, rows.Seed(o.N, 9))
 		}
 		expectNone(t, o, api.Seed{})
 	}
@@ -306,7 +275,7 @@ func TestSecret(t *testing.T) {
 		for i := range o.P + 2 {
 			words = append(words, uint16(i))
 		}
-		for _, s := range seeds(o) {
+		for _, s := range rows.Seeds(o.N) {
 			for _, q := range rows.Places() {
 				for _, d := range words {
 					got := once.Secret(o, s, q, d)
@@ -322,7 +291,7 @@ func TestSecret(t *testing.T) {
 // P10.1: secrets hang on each byte of the name, the place, the word and the secret, and on nothing else.
 func TestSecretUnlike(t *testing.T) {
 	for _, o := range rows.Sets() {
-		s := seed(o, 11)
+		s := rows.Seed(o.N, 11)
 		seen := map[string]string{string(once.Secret(o, s, 1, 2)): "as it is"}
 		add := func(what string, at int, b []byte) {
 			if was := seen[string(b)]; was != "" {
@@ -335,37 +304,30 @@ func TestSecretUnlike(t *testing.T) {
 		}
 		for i := range 16 {
 			add("a bit of the word", i, once.Secret(o, s, 1, 2^1<<i))
-			add("a byte of the name", i, once.Secret(o, api.Seed{Name: turned(s.Name, i), Secret: s.Secret}, 1, 2))
+			add("a byte of the name", i, once.Secret(o, api.Seed{Name: rows.Turned(s.Name, i), Secret: s.Secret}, 1, 2))
 		}
 		for i := range o.N {
-			add("a byte of the secret", i, once.Secret(o, api.Seed{Name: s.Name, Secret: turned(s.Secret, i)}, 1, 2))
+			add("a byte of the secret", i, once.Secret(o, api.Seed{Name: s.Name, Secret: rows.Turned(s.Secret, i)}, 1, 2))
 		}
 		expect(t, once.Secret(o, s, 1, 2), byLayers.secret(o, s, 1, 2), "P10.1: Secret, again", o.Code)
 	}
 }
 
-// turned: b with another byte at a place, in memory of its own.
-func turned(b []byte, at int) []byte {
-	out := bytes.Clone(b)
-	out[at] ^= 1
-	return out
-}
-
 // P10.1: keys of every set, and of some with many seeds and places.
 func TestKey(t *testing.T) {
 	for _, o := range rows.Sets() {
-		s := seed(o, 12)
+		s := rows.Seed(o.N, 12)
 		for _, m := range allMeans {
 			expect(t, once.Key(o, s, 258), m.key(o, s, 258), "P10.1: Key", o.Code)
 		}
 	}
 	for _, code := range []uint32{2, 3, 5, 7, 8, 9, 14, 15} {
 		o := set(t, code)
-		for _, s := range seeds(o) {
+		for _, s := range rows.Seeds(o.N) {
 			expect(t, once.Key(o, s, 0), byOthers.key(o, s, 0), "P10.1: Key, by its seed", o.Code)
 		}
 		for _, q := range rows.Places() {
-			expect(t, once.Key(o, seed(o, 13), q), byOthers.key(o, seed(o, 13), q), "P10.1: Key, by its place", o.Code, q)
+			expect(t, once.Key(o, rows.Seed(o.N, 13), q), byOthers.key(o, rows.Seed(o.N, 13), q), "P10.1: Key, by its place", o.Code, q)
 		}
 	}
 }
@@ -373,7 +335,7 @@ func TestKey(t *testing.T) {
 // P10.1: signatures of every set, with texts of many lengths; P10.3: each stands for the key.
 func TestSign(t *testing.T) {
 	for _, o := range rows.Sets() {
-		s := seed(o, 14)
+		s := rows.Seed(o.N, 14)
 		key := once.Key(o, s, 0x1020304)
 		for _, text := range [][]byte{nil, {}, {0}, []byte("a text"), rows.Mixed(1000, 15), rows.Guarded([]byte("a text"))} {
 			got := once.Sign(o, s, 0x1020304, text)
@@ -395,11 +357,11 @@ func TestSignSeedsPlaces(t *testing.T) {
 			expect(t, sig, byOthers.sign(o, s, q, text), "P10.1: Sign", o.Code, q)
 			expect(t, stands(t, s.Name, q, text, sig, o.Code, q), once.Key(o, s, q), "P10.3: Stands", o.Code, q)
 		}
-		for _, s := range seeds(o) {
+		for _, s := range rows.Seeds(o.N) {
 			sound(s, 77)
 		}
 		for _, q := range rows.Places() {
-			sound(seed(o, 16), q)
+			sound(rows.Seed(o.N, 16), q)
 		}
 	}
 }
@@ -408,7 +370,7 @@ func TestSignSeedsPlaces(t *testing.T) {
 func TestTextLengths(t *testing.T) {
 	for _, code := range []uint32{6, 11} {
 		o := set(t, code)
-		s := seed(o, 17)
+		s := rows.Seed(o.N, 17)
 		key := once.Key(o, s, 5)
 		for n := range 290 {
 			text := rows.Mixed(n, 18)
@@ -423,7 +385,7 @@ func TestTextLengths(t *testing.T) {
 func TestLongTexts(t *testing.T) {
 	long := rows.Mixed(2*api.MaxText, 19)
 	for _, o := range rows.Sets() {
-		s := seed(o, 20)
+		s := rows.Seed(o.N, 20)
 		for _, n := range []int{api.MaxText - 1, api.MaxText} {
 			sig := once.Sign(o, s, 9, long[:n])
 			expect(t, sig, byOthers.sign(o, s, 9, long[:n]), "P10.1: Sign, bytes of text", o.Code, n)
@@ -441,7 +403,7 @@ func TestLongTexts(t *testing.T) {
 func TestSignatureParts(t *testing.T) {
 	text := []byte("in parts")
 	for _, o := range rows.Sets() {
-		s := seed(o, 21)
+		s := rows.Seed(o.N, 21)
 		sig := once.Sign(o, s, 3, text)
 		expect(t, sig[:4], []byte{0, 0, 0, byte(o.Code)}, "P10.1: the code", o.Code)
 		salt := sig[4 : 4+o.N]
@@ -475,7 +437,7 @@ func edgeText(t *testing.T, o api.Ots, s api.Seed, q uint32) []byte {
 // P10.1, P10.3: texts of whose digits one is 0, so that the chain isn't gone up at all, and one the greatest, so that it is gone up to its end.
 func TestEdgeDigits(t *testing.T) {
 	for _, o := range rows.Sets() {
-		s := seed(o, 22)
+		s := rows.Seed(o.N, 22)
 		text := edgeText(t, o, s, 4)
 		sig := once.Sign(o, s, 4, text)
 		expect(t, sig, byOthers.sign(o, s, 4, text), "P10.1: Sign, digits at both edges", o.Code)
@@ -497,17 +459,17 @@ func another(t *testing.T, o api.Ots, key, name []byte, q uint32, text, sig []by
 func TestStandsForAnother(t *testing.T) {
 	text := rows.Mixed(40, 23)
 	for _, o := range someSets(t) {
-		s := seed(o, 24)
+		s := rows.Seed(o.N, 24)
 		key, sig := once.Key(o, s, 77), once.Sign(o, s, 77, text)
 		expect(t, stands(t, s.Name, 77, text, sig, o.Code), key, "P10.3: Stands", o.Code)
 		for i := range text {
-			another(t, o, key, s.Name, 77, turned(text, i), sig, "P10.2: a byte of the text", o.Code, i)
+			another(t, o, key, s.Name, 77, rows.Turned(text, i), sig, "P10.2: a byte of the text", o.Code, i)
 		}
 		for _, other := range [][]byte{nil, text[:39], text[1:], append(bytes.Clone(text), 0), append([]byte{0}, text...), append(bytes.Clone(text), text...)} {
 			another(t, o, key, s.Name, 77, other, sig, "P10.2: another text", o.Code, len(other))
 		}
 		for i := range s.Name {
-			another(t, o, key, turned(s.Name, i), 77, text, sig, "P10.2: a byte of the name", o.Code, i)
+			another(t, o, key, rows.Turned(s.Name, i), 77, text, sig, "P10.2: a byte of the name", o.Code, i)
 		}
 		for i := range 32 {
 			another(t, o, key, s.Name, 77^1<<i, text, sig, "P10.2: a bit of the place", o.Code, i)
@@ -519,17 +481,17 @@ func TestStandsForAnother(t *testing.T) {
 func TestOtherByte(t *testing.T) {
 	text := []byte("a text")
 	for _, o := range rows.Sets() {
-		s := seed(o, 25)
+		s := rows.Seed(o.N, 25)
 		key, sig := once.Key(o, s, 6), once.Sign(o, s, 6, text)
 		step := o.N + 1
 		if !testing.Short() && (o.Code == 7 || o.Code == 15) {
 			step = 1
 		}
 		for at := 4; at < len(sig); at += step {
-			another(t, o, key, s.Name, 6, text, turned(sig, at), "P10.2: a byte of the signature", o.Code, at)
+			another(t, o, key, s.Name, 6, text, rows.Turned(sig, at), "P10.2: a byte of the signature", o.Code, at)
 		}
 		for _, at := range []int{4, 4 + o.N - 1, 4 + o.N, len(sig) - 1} {
-			another(t, o, key, s.Name, 6, text, turned(sig, at), "P10.2: a byte at an edge", o.Code, at)
+			another(t, o, key, s.Name, 6, text, rows.Turned(sig, at), "P10.2: a byte at an edge", o.Code, at)
 		}
 	}
 }
@@ -538,7 +500,7 @@ func TestOtherByte(t *testing.T) {
 func TestOtherHeights(t *testing.T) {
 	text := []byte("heights")
 	for _, o := range rows.Sets() {
-		s := seed(o, 26)
+		s := rows.Seed(o.N, 26)
 		key, sig := once.Key(o, s, 8), once.Sign(o, s, 8, text)
 		for i, d := range byOthers.textDigits(o, s.Name, 8, sig[4:4+o.N], text)[:4] {
 			for _, to := range []int{d - 1, d + 1} {
@@ -573,7 +535,7 @@ func TestAnyBytes(t *testing.T) {
 // P10.2: nothing of a name that hasn't 16 bytes: Arg.
 func TestStandsNames(t *testing.T) {
 	for _, o := range rows.Sets() {
-		s := seed(o, 28)
+		s := rows.Seed(o.N, 28)
 		sig := once.Sign(o, s, 1, nil)
 		for _, n := range []int{0, 1, 15, 17, 31, 32, 256, 256 + 16, 1<<16 + 16} {
 			refused(t, rows.Mixed(n, 28), nil, sig, api.Arg, "bytes of the name", o.Code, n)
@@ -589,7 +551,7 @@ func TestShort(t *testing.T) {
 	name := rows.Mixed(16, 29)
 	refused(t, name, nil, nil, api.Short, "no signature")
 	for _, o := range rows.Sets() {
-		sig := once.Sign(o, seed(o, 29), 1, nil)
+		sig := once.Sign(o, rows.Seed(o.N, 29), 1, nil)
 		for n := range 4 {
 			refused(t, name, nil, sig[:n], api.Short, "the first bytes, spare room behind", o.Code, n)
 			refused(t, name, nil, bytes.Clone(sig[:n]), api.Short, "the first bytes", o.Code, n)
@@ -619,7 +581,7 @@ func TestUnknown(t *testing.T) {
 func TestLength(t *testing.T) {
 	name := rows.Mixed(16, 31)
 	for i, o := range rows.Sets() {
-		sig := once.Sign(o, seed(o, 31), 1, nil)
+		sig := once.Sign(o, rows.Seed(o.N, 31), 1, nil)
 		lengths := []int{4, 5, 4 + o.N, sizes[i] - o.N, sizes[i] - 4, sizes[i] - 2, sizes[i] - 1, sizes[i] + 1, sizes[i] + 2, sizes[i] + 4, sizes[i] + o.N, 2 * sizes[i], sizes[i] + 256, sizes[i] + 1<<16}
 		for _, n := range append(lengths, sizes...) {
 			if n == sizes[i] {
@@ -636,7 +598,7 @@ func TestLength(t *testing.T) {
 func TestOtherCode(t *testing.T) {
 	text := []byte("a text")
 	for i, o := range rows.Sets() {
-		s := seed(o, 32)
+		s := rows.Seed(o.N, 32)
 		key, sig := once.Key(o, s, 2), once.Sign(o, s, 2, text)
 		for j, other := range rows.Sets() {
 			bad := bytes.Clone(sig)
@@ -657,7 +619,7 @@ func TestOtherCode(t *testing.T) {
 func TestNamedFirst(t *testing.T) {
 	name, text, long := rows.Mixed(16, 33), []byte("a text"), make([]byte, api.MaxText+1)
 	o := set(t, 8)
-	sound := once.Sign(o, seed(o, 33), 0, text)
+	sound := once.Sign(o, rows.Seed(o.N, 33), 0, text)
 	for _, c := range []struct {
 		what string
 		sig  []byte
@@ -687,7 +649,7 @@ func TestNamedFirst(t *testing.T) {
 func TestAfterRefused(t *testing.T) {
 	text := []byte("a text")
 	for _, o := range someSets(t) {
-		s := seed(o, 34)
+		s := rows.Seed(o.N, 34)
 		key, sig, secret := byOthers.key(o, s, 1), byOthers.sign(o, s, 1, text), byOthers.secret(o, s, 1, 2)
 		bad := api.Seed{Name: s.Name[:15], Secret: s.Secret}
 		for range 2 {
@@ -707,7 +669,7 @@ func TestAfterRefused(t *testing.T) {
 func TestKeepsApart(t *testing.T) {
 	text := rows.Mixed(50, 35)
 	for _, o := range someSets(t) {
-		s := seed(o, 36)
+		s := rows.Seed(o.N, 36)
 		sig := once.Sign(o, s, 3, text)
 		of := func(in [][]byte) api.Seed { return api.Seed{Name: in[0], Secret: in[1]} }
 		handed := func(call func(in [][]byte) []byte) func(in [][]byte) []byte {
