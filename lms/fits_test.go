@@ -9,7 +9,6 @@ import (
 
 	"tearoff/api"
 	"tearoff/chain"
-	"tearoff/digits"
 	"tearoff/lms"
 	"tearoff/merkle"
 	"tearoff/once"
@@ -240,17 +239,6 @@ func TestOtherKind(t *testing.T) {
 	}
 }
 
-// bare: the one-time signature of a text however long, put together by hand from layer 9.
-func (f family) bare(s api.Seed, q uint32, text []byte) []byte {
-	salt := once.Secret(f.o, s, q, 0xfffd)
-	sum := chain.Part(f.o.Kind, f.o.N, s.Name, q, 0x8181, salt, text)
-	out := append(binary.BigEndian.AppendUint32(nil, f.o.Code), salt...)
-	for i, d := range digits.All(sum, f.o.W) {
-		out = append(out, chain.Up(f.o, s.Name, q, i, 0, d, once.Secret(f.o, s, q, uint16(i)))...)
-	}
-	return out
-}
-
 // P12.2: texts of MaxText bytes fit, and longer ones don't, though all else is as it must be.
 func TestFitsLongTexts(t *testing.T) {
 	long := rows.Mixed(2*api.MaxText, 32)
@@ -258,10 +246,10 @@ func TestFitsLongTexts(t *testing.T) {
 		h := byHand(f, rows.Seed(f.o.N, 33))
 		way := merkle.Way(f.t, h.s.Name, h.keys, 1)
 		for _, n := range []int{0, 6, api.MaxText - 1, api.MaxText} {
-			fits(t, h.made(), long[:n], f.sig(1, f.bare(h.s, 1, long[:n]), way), "bytes of text", f.pair, n)
+			fits(t, h.made(), long[:n], f.sig(1, rows.Bare(f.o, h.s, 1, long[:n]), way), "bytes of text", f.pair, n)
 		}
 		for _, n := range []int{api.MaxText + 1, api.MaxText + 2, 2 * api.MaxText} {
-			none(t, h.made(), long[:n], f.sig(1, f.bare(h.s, 1, long[:n]), way), "bytes of text", f.pair, n)
+			none(t, h.made(), long[:n], f.sig(1, rows.Bare(f.o, h.s, 1, long[:n]), way), "bytes of text", f.pair, n)
 		}
 	})
 }

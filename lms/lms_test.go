@@ -23,18 +23,12 @@ type family struct {
 	t    api.Tree
 }
 
-// families: all pairs that may be. There must be as many as there are: of each kind and size four sets of the one sort, nine of the other.
+// families: all pairs that may be.
 func families() []family {
 	var out []family
-	for _, o := range rows.Sets() {
-		for _, s := range rows.Trees() {
-			if o.Kind == s.Kind && o.N == s.N {
-				out = append(out, family{api.Pair{Ots: o.Code, Tree: s.Code}, o, s})
-			}
-		}
-	}
-	if len(out) != 4*4*9 {
-		panic("not as many pairs as there are")
+	for _, p := range rows.Pairs() {
+		o, s := rows.SetsOf(p)
+		out = append(out, family{p, o, s})
 	}
 	return out
 }
@@ -66,32 +60,6 @@ func few() []family {
 		api.Pair{Ots: 11, Tree: 0xf000000a}, api.Pair{Ots: 9, Tree: 0xf0000009},
 		api.Pair{Ots: 14, Tree: 0xf000000f}, api.Pair{Ots: 15, Tree: 0xf000000d},
 	)
-}
-
-// noPairs: such as may not be: of sets that don't go together, of codes that are unknown, and of codes in each other's place.
-func noPairs() []api.Pair {
-	unknown := []uint32{0, 25, 26, 100, 255, 256, 257, 256 + 5, 5 << 8, 5 << 16, 5 << 24, 1<<16 + 5, 1<<31 + 5, 0xf0000000, 0xf0000011, 0xf0000012, 0x70000001, 0xf0000101, math.MaxUint32}
-	var out []api.Pair
-	for _, o := range rows.Sets() {
-		for _, code := range append(unknown, 1, 4) {
-			out = append(out, api.Pair{Ots: o.Code, Tree: code})
-		}
-		for _, s := range rows.Trees() {
-			out = append(out, api.Pair{Ots: o.Code, Tree: s.Code}, api.Pair{Ots: s.Code, Tree: o.Code})
-		}
-	}
-	for _, s := range rows.Trees() {
-		for _, code := range append(unknown, 17, 18, 24) {
-			out = append(out, api.Pair{Ots: code, Tree: s.Code})
-		}
-	}
-	for _, code := range unknown {
-		out = append(out, api.Pair{Ots: code, Tree: code}, api.Pair{Ots: code})
-	}
-	may := families()
-	return slices.DeleteFunc(out, func(p api.Pair) bool {
-		return slices.ContainsFunc(may, func(f family) bool { return f.pair == p })
-	})
 }
 
 // leaves: how many the tree has.
@@ -300,7 +268,7 @@ func TestMay(t *testing.T) {
 			t.Errorf("P12.1: not May(%+v)", f.pair)
 		}
 	}
-	none := noPairs()
+	none := rows.NoPairs()
 	if len(none) < 16*36-144 {
 		t.Fatalf("%v pairs that may not be", len(none))
 	}
@@ -323,7 +291,7 @@ func TestSizes(t *testing.T) {
 			t.Errorf("P12.1: Sizes(%+v): %v, %v, not %v, %v", f.pair, n, m, wantPublic, wantSig)
 		}
 	}
-	for _, p := range noPairs() {
+	for _, p := range rows.NoPairs() {
 		if n, m := lms.Sizes(p); n != 0 || m != 0 {
 			t.Errorf("P12.1: Sizes(%+v): %v, %v, not 0, 0", p, n, m)
 		}
@@ -360,7 +328,7 @@ func TestHigher(t *testing.T) {
 // P12.1: nothing of pairs that may not be, whatever the seed, the leaf and the text are: Unknown.
 func TestNoPairs(t *testing.T) {
 	long := make([]byte, api.MaxText+1)
-	for _, p := range noPairs() {
+	for _, p := range rows.NoPairs() {
 		for _, s := range []api.Seed{rows.Seed(24, 4), rows.Seed(32, 4), {}, {Name: rows.Mixed(15, 4), Secret: rows.Mixed(32, 5)}} {
 			noPublic(t, p, s, api.Unknown, "no pair")
 			noSign(t, p, s, 0, []byte("a text"), api.Unknown, "no pair")

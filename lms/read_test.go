@@ -57,7 +57,7 @@ func TestPairShort(t *testing.T) {
 
 // P12.2: public keys whose codes aren't those of a pair that may be, whatever their length: Unknown.
 func TestPairUnknown(t *testing.T) {
-	for _, p := range noPairs() {
+	for _, p := range rows.NoPairs() {
 		for _, n := range []int{0, 1, 16, 39, 40, 41, 47, 48, 49, 100, 70000} {
 			noPair(t, append(codes(p), make([]byte, n)...), api.Unknown, p)
 		}
@@ -112,7 +112,7 @@ func TestTake(t *testing.T) {
 // P12.2: nothing of pairs that may not be, whatever the bytes are: Unknown.
 func TestTakeUnknown(t *testing.T) {
 	long := rows.Mixed(10000, 45)
-	for _, p := range noPairs() {
+	for _, p := range rows.NoPairs() {
 		for _, n := range []int{0, 1, 780, 1308, len(long)} {
 			noTake(t, p, long[:n], api.Unknown, "no pair")
 		}
