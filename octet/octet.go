@@ -5,15 +5,11 @@ import (
 	"bytes"
 
 	"tearoff/api"
+	"tearoff/leave"
 )
 
 // wordLen is how many bytes the greatest number has.
 const wordLen = 8
-
-// wrong is what leaves a cut that can't be made. It is a type of its own, so that no other panic is taken for it.
-type wrong struct {
-	code api.Code
-}
 
 // Put: v as n bytes, the greatest first; what doesn't fit is cut. Nothing, if n isn't 0 to 8.
 func Put(v uint64, n int) []byte {
@@ -81,32 +77,19 @@ func Xor(a, b []byte) []byte {
 
 // Cut: b in parts of these sizes, each in memory of its own. Arg, Short, Length.
 func Cut(b []byte, sizes ...int) (out [][]byte, e api.Code) {
-	defer func() {
-		switch x := recover().(type) {
-		case nil:
-		case wrong:
-			out, e = nil, x.code
-		default:
-			panic(x)
-		}
-	}()
+	defer func() { e = leave.Told(recover()) }()
+	var parts [][]byte
 	for _, n := range sizes {
-		out = append(out, first(b, n))
+		parts = append(parts, first(b, n))
 		b = b[n:]
 	}
-	if len(b) > 0 {
-		panic(wrong{api.Length})
-	}
-	return out, api.OK
+	leave.Need(len(b) == 0, api.Length)
+	return parts, api.OK
 }
 
 // first: the first n bytes of b, in memory of its own. It leaves by a panic, if there are none such.
 func first(b []byte, n int) []byte {
-	if n < 0 {
-		panic(wrong{api.Arg})
-	}
-	if n > len(b) {
-		panic(wrong{api.Short})
-	}
+	leave.Need(n >= 0, api.Arg)
+	leave.Need(n <= len(b), api.Short)
 	return Cat(b[:n])
 }
