@@ -228,22 +228,11 @@ func TestAddressTells(t *testing.T) {
 	}
 }
 
-// wrong: rows that haven't n bytes: none, too few, too many, with room for the rest, and such as by the last bytes of their length would have n.
-func wrong(n int) [][]byte {
-	out := [][]byte{nil, {}, rows.Mixed(256+n, 22), rows.Mixed(1<<16+n, 23)}
-	for length := range 100 {
-		if length != n {
-			out = append(out, rows.Mixed(length, 24), append(make([]byte, 0, length+n), rows.Mixed(length, 24)...))
-		}
-	}
-	return out
-}
-
 // P14.2: nothing of F and H, if a seed or a row hasn't 32 bytes, each alone, some, and all.
 func TestMaskedRefused(t *testing.T) {
 	seed, x, y := rows.Mixed(rowLen, 25), rows.Mixed(rowLen, 26), rows.Mixed(rowLen, 27)
 	for _, a := range []api.Adrs{{}, mixed(28).Adrs} {
-		for _, b := range wrong(rowLen) {
+		for _, b := range rows.Wrong(rowLen) {
 			n := len(b)
 			nothing(t, adrs.F(b, a, x), "P14.2: F, bytes of the seed", n)
 			nothing(t, adrs.F(seed, a, b), "P14.2: F, bytes of x", n)

@@ -99,7 +99,7 @@ func TestTweakNoSize(t *testing.T) {
 // P14.2: nothing of Tweak, if the seed hasn't n bytes: too few, too many, and as many as another size has.
 func TestTweakSeeds(t *testing.T) {
 	for _, n := range sizes {
-		for _, seed := range wrong(n) {
+		for _, seed := range rows.Wrong(n) {
 			for _, text := range [][]byte{nil, []byte("text"), rows.Mixed(n, 43)} {
 				nothing(t, adrs.Tweak(n, seed, api.Adrs{}, text), "P14.2: Tweak, n, bytes of the seed", n, len(seed))
 				nothing(t, adrs.Tweak(n, seed, mixed(44).Adrs, text), "P14.2: Tweak, n, bytes of the seed", n, len(seed))

@@ -12,7 +12,7 @@ import (
 
 // P15.1, P15.2: what was handed in stays as it was, its spare room too, and isn't shared nor kept; nor do answers share memory: what was answered may be written over.
 func TestKeepsApart(t *testing.T) {
-	m := masked(71)
+	m := rows.Masked(71)
 	of := func(in [][]byte) api.Masked { return api.Masked{Secret: in[0], Salt: in[1], Seed: in[2]} }
 	for _, p := range []place{{}, {1, 2, 3}} {
 		for _, sum := range [][]byte{make([]byte, rowLen), bytes.Repeat([]byte{255}, rowLen), all015()} {
@@ -63,7 +63,7 @@ func TestShared(t *testing.T) {
 
 // P15.1, P15.2: a refused call leaves nothing behind, and a call tells the same each time, whatever was asked between.
 func TestAfterRefused(t *testing.T) {
-	m, sum := masked(73), all015()
+	m, sum := rows.Masked(73), all015()
 	bad := api.Masked{Secret: m.Secret, Salt: m.Salt[:31], Seed: m.Seed}
 	for _, p := range places() {
 		leaf, sig := byOthers.leaf(p, m), byOthers.sign(p, m, sum)
@@ -75,7 +75,7 @@ func TestAfterRefused(t *testing.T) {
 			nothing(t, p.stands(m.Seed, sum, sig[:sigLen-1]), "P15.2: Stands, a short signature")
 			expect(t, p.stands(m.Seed, sum, sig), leaf, "P15.3: Stands, behind a refused one", p)
 			another(t, p.stands(m.Salt, sum, sig), leaf, "P15.2: Stands, another seed", p)
-			p.sign(masked(74), make([]byte, rowLen))
+			p.sign(rows.Masked(74), make([]byte, rowLen))
 		}
 	}
 }

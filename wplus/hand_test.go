@@ -3,10 +3,8 @@ package wplus_test
 import (
 	"bytes"
 	"crypto/sha256"
-	"encoding/binary"
 	"fmt"
 	"math"
-	"slices"
 	"strconv"
 	"testing"
 
@@ -65,50 +63,20 @@ type means struct {
 	digits func(sum []byte) []int
 }
 
-// byLayers are the layers 14 and 7, byOthers are Go's own sums of bytes laid out here, and digits read off a number's bits.
+// others are sums with masks of Go's own SHA-256.
+var others = rows.Sum(otherSum)
+
+// byLayers are the layers 14 and 7, byOthers are those sums, and digits read off a number's bits.
 var (
 	byLayers = means{adrs.Prf, adrs.F, adrs.H, func(sum []byte) []int { return digits.All(sum, 4) }}
-	byOthers = means{otherPrf, otherF, otherH, otherDigits}
+	byOthers = means{others.Prf, others.F, others.H, otherDigits}
 	allMeans = []means{byLayers, byOthers}
 )
 
-// otherSum: the SHA-256 of k as 32 bytes, and of all, one behind the other.
-func otherSum(k byte, list ...[]byte) []byte {
-	s := sha256.Sum256(slices.Concat(append([][]byte{make([]byte, 31), {k}}, list...)...))
+// otherSum: the SHA-256 of a text, as others sum it.
+func otherSum(text []byte) []byte {
+	s := sha256.Sum256(text)
 	return s[:]
-}
-
-// otherPrf, otherF, otherH: what layer 14 must answer.
-func otherPrf(key, text []byte) []byte { return otherSum(3, key, text) }
-
-func otherF(seed []byte, a api.Adrs, x []byte) []byte {
-	return otherSum(0, told(seed, a, 0), xor(x, told(seed, a, 1)))
-}
-
-func otherH(seed []byte, a api.Adrs, left, right []byte) []byte {
-	return otherSum(1, told(seed, a, 0), xor(left, told(seed, a, 1)), xor(right, told(seed, a, 2)))
-}
-
-// told: what a seed and an address tell with k.
-func told(seed []byte, a api.Adrs, k uint32) []byte { return otherPrf(seed, laid(a, k)) }
-
-// laid: an address as bytes, with k.
-func laid(a api.Adrs, k uint32) []byte {
-	b := binary.BigEndian.AppendUint32(nil, a.Layer)
-	b = binary.BigEndian.AppendUint64(b, a.Tree)
-	for _, v := range []uint32{a.Kind, a.A, a.B, a.C, k} {
-		b = binary.BigEndian.AppendUint32(b, v)
-	}
-	return b
-}
-
-// xor: a ^ b, of rows of 32 bytes.
-func xor(a, b []byte) []byte {
-	out := make([]byte, rowLen)
-	for i := range out {
-		out[i] = a[i] ^ b[i]
-	}
-	return out
 }
 
 // otherDigits: all digits of a sum, read off its bits, four by four, and off those of what they lack.
@@ -138,7 +106,7 @@ func row(i int) []byte { return append(make([]byte, 31), byte(i)) }
 
 // secret: the secret of a chain, put together.
 func (m means) secret(p place, s api.Masked, i int) []byte {
-	return m.prf(m.prf(s.Secret, laid(p.at(chainKind, 0, 0), 0)), row(i))
+	return m.prf(m.prf(s.Secret, rows.Laid(p.at(chainKind, 0, 0), 0)), row(i))
 }
 
 // up: x, gone up step by step.
@@ -204,17 +172,6 @@ func (m means) stands(p place, seed, sum, sig []byte) []byte {
 // part: what a signature has of a chain.
 func part(sig []byte, i int) []byte { return sig[rowLen*i : rowLen*(i+1)] }
 
-// masked: secrets that may be, and that start marks.
-func masked(start byte) api.Masked {
-	return api.Masked{Secret: rows.Mixed(rowLen, start), Salt: rows.Mixed(rowLen, start+1), Seed: rows.Mixed(rowLen, start+2)}
-}
-
-// maskeds: some that may be, noughts and ones among them, and with spare room.
-func maskeds() []api.Masked {
-	noughts, ones, spare := make([]byte, rowLen), bytes.Repeat([]byte{255}, rowLen), rows.Guarded(rows.Mixed(rowLen, 4))
-	return []api.Masked{masked(1), {Secret: noughts, Salt: noughts, Seed: noughts}, {Secret: ones, Salt: ones, Seed: ones}, {Secret: spare, Salt: spare, Seed: spare}}
-}
-
 // few: where some leaves are: with numbers 0, low ones, such as have a byte of their own in each place, and the greatest.
 func few() []place {
 	return []place{{}, {1, 2, 3}, {0x01020304, 0x05060708090a0b0c, 0x0d0e0f10}, {math.MaxUint32, math.MaxUint64, math.MaxUint32}}
@@ -238,37 +195,9 @@ func sums() [][]byte {
 		out = append(out, bytes.Repeat([]byte{d<<4 | d}, rowLen))
 	}
 	for _, bit := range []int{0, 3, 4, 7, 100, 252, 255} {
-		out = append(out, turnedBit(all015(), bit))
+		out = append(out, rows.TurnedBit(all015(), bit))
 	}
 	return out
-}
-
-// turnedBit: b with another bit, in memory of its own.
-func turnedBit(b []byte, bit int) []byte {
-	out := bytes.Clone(b)
-	out[bit/8] ^= 128 >> (bit % 8)
-	return out
-}
-
-// wrong: rows that haven't n bytes: none, too few, too many, with room for the rest, and such as by the last bytes of their length would have n.
-func wrong(n int) [][]byte {
-	out := [][]byte{nil, {}, rows.Guarded(nil), rows.Mixed(256+n, 9), rows.Mixed(1<<16+n, 9)}
-	for _, length := range []int{1, 2, 16, 24, 31, 32, 33, 48, 64, n - 32, n - 1, n + 1, n + 32, 2 * n} {
-		if length > 0 && length != n {
-			out = append(out, rows.Mixed(length, 10), append(make([]byte, 0, length+n), rows.Mixed(length, 10)...))
-		}
-	}
-	return out
-}
-
-// without: m with each of its three alone being b, and with all of them.
-func without(m api.Masked, b []byte) map[string]api.Masked {
-	return map[string]api.Masked{
-		"Secret": {Secret: b, Salt: m.Salt, Seed: m.Seed},
-		"Salt":   {Secret: m.Secret, Salt: b, Seed: m.Seed},
-		"Seed":   {Secret: m.Secret, Salt: m.Salt, Seed: b},
-		"all":    {Secret: b, Salt: b, Seed: b},
-	}
 }
 
 // expect tells where bytes aren't those that they must be.

@@ -12,12 +12,12 @@ import (
 
 // P15.3: a signature stands for its leaf, of many sums, secrets and places.
 func TestStandsForLeaf(t *testing.T) {
-	m, p := masked(41), place{1, 2, 3}
+	m, p := rows.Masked(41), place{1, 2, 3}
 	leaf := p.leaf(m)
 	for _, sum := range sums() {
 		expect(t, p.stands(m.Seed, sum, p.sign(m, sum)), leaf, "P15.3: Stands, of a sum", sum)
 	}
-	for _, m := range maskeds() {
+	for _, m := range rows.Maskeds() {
 		for _, p := range places() {
 			for _, sum := range [][]byte{bytes.Repeat([]byte{255}, rowLen), rows.Mixed(rowLen, 42)} {
 				expect(t, p.stands(m.Seed, sum, p.sign(m, sum)), p.leaf(m), "P15.3: Stands, at a place", p, sum)
@@ -33,7 +33,7 @@ func TestStands(t *testing.T) {
 			p, seed, sig := place{1, 2, 3}, rows.Mixed(rowLen, 43), rows.Mixed(sigLen, byte(i))
 			expect(t, p.stands(seed, sum, sig), means.stands(p, seed, sum, sig), "P15.2: Stands, of a sum", sum)
 		}
-		for _, m := range maskeds() {
+		for _, m := range rows.Maskeds() {
 			for _, p := range places() {
 				for _, sig := range [][]byte{make([]byte, sigLen), bytes.Repeat([]byte{255}, sigLen), rows.Mixed(sigLen, 44)} {
 					expect(t, p.stands(m.Seed, all015(), sig), means.stands(p, m.Seed, all015(), sig), "P15.2: Stands, at a place", p)
@@ -82,9 +82,9 @@ func TestStandsEnds(t *testing.T) {
 
 // P15.2: nothing, if seed or sum hasn't 32 bytes, or sig 67 * 32: each alone, and together.
 func TestStandsRefused(t *testing.T) {
-	m, p, sum := masked(49), place{1, 2, 3}, all015()
+	m, p, sum := rows.Masked(49), place{1, 2, 3}, all015()
 	sig := p.sign(m, sum)
-	for _, b := range wrong(rowLen) {
+	for _, b := range rows.Wrong(rowLen) {
 		n := len(b)
 		nothing(t, p.stands(b, sum, sig), "P15.2: Stands, bytes of the seed", n)
 		nothing(t, p.stands(m.Seed, b, sig), "P15.2: Stands, bytes of the sum", n)
@@ -98,7 +98,7 @@ func TestStandsRefused(t *testing.T) {
 		nothing(t, p.stands(rows.Mixed(n, 50), sum, sig), "P15.2: Stands, bytes of the seed", n)
 		nothing(t, p.stands(m.Seed, rows.Mixed(n, 50), sig), "P15.2: Stands, bytes of the sum", n)
 	}
-	for _, b := range append(wrong(sigLen), sig[1:], sig[:sigLen-1], append(bytes.Clone(sig), 0), append(bytes.Clone(sig), sig...)) {
+	for _, b := range append(rows.Wrong(sigLen), sig[1:], sig[:sigLen-1], append(bytes.Clone(sig), 0), append(bytes.Clone(sig), sig...)) {
 		nothing(t, p.stands(m.Seed, sum, b), "P15.2: Stands, bytes of the signature", len(b))
 		nothing(t, wplus.Stands(m.Seed, 0, 0, 0, make([]byte, rowLen), b), "P15.2: Stands, bytes of the signature", len(b))
 	}
@@ -110,12 +110,12 @@ func TestStandsRefused(t *testing.T) {
 
 // P15.2: a signature with one bit turned, in any of its parts, stands for another leaf.
 func TestTurned(t *testing.T) {
-	m, p := masked(52), place{1, 2, 3}
+	m, p := rows.Masked(52), place{1, 2, 3}
 	leaf := p.leaf(m)
 	for _, sum := range [][]byte{make([]byte, rowLen), all015(), rows.Mixed(rowLen, 53)} {
 		sig := p.sign(m, sum)
 		for i := range chainCount {
-			other := turnedBit(sig, 8*rowLen*i+7*i%256)
+			other := rows.TurnedBit(sig, 8*rowLen*i+7*i%256)
 			got := p.stands(m.Seed, sum, other)
 			another(t, got, leaf, "P15.2: Stands, a bit of a part turned", i)
 			expect(t, got, byOthers.stands(p, m.Seed, sum, other), "P15.2: Stands, a bit of a part turned", i)
@@ -125,11 +125,11 @@ func TestTurned(t *testing.T) {
 
 // P15.2: likewise each bit of the parts of chains 0, 1, 63 and 66, and each byte of all, where few steps are left.
 func TestTurnedBits(t *testing.T) {
-	m, p, sum := masked(54), place{4, 5, 6}, bytes.Repeat([]byte{255}, rowLen)
+	m, p, sum := rows.Masked(54), place{4, 5, 6}, bytes.Repeat([]byte{255}, rowLen)
 	leaf, sig := p.leaf(m), p.sign(m, sum)
 	for _, i := range []int{0, 1, 63, 66} {
 		for bit := range 8 * rowLen {
-			another(t, p.stands(m.Seed, sum, turnedBit(sig, 8*rowLen*i+bit)), leaf, "P15.2: Stands, a bit turned", i, bit)
+			another(t, p.stands(m.Seed, sum, rows.TurnedBit(sig, 8*rowLen*i+bit)), leaf, "P15.2: Stands, a bit turned", i, bit)
 		}
 	}
 	if testing.Short() {
@@ -142,7 +142,7 @@ func TestTurnedBits(t *testing.T) {
 
 // P15.2: parts that change their places, and a part that is gone up one step more or less, stand for another leaf.
 func TestMoved(t *testing.T) {
-	m, p, sum := masked(55), place{1, 2, 3}, all015()
+	m, p, sum := rows.Masked(55), place{1, 2, 3}, all015()
 	leaf, sig := p.leaf(m), p.sign(m, sum)
 	all := byOthers.digits(sum)
 	for i, d := range all {
@@ -161,7 +161,7 @@ func TestMoved(t *testing.T) {
 
 // P15.2: of another sum a signature stands for another leaf.
 func TestOtherSum(t *testing.T) {
-	m, p := masked(56), place{1, 2, 3}
+	m, p := rows.Masked(56), place{1, 2, 3}
 	leaf, list := p.leaf(m), sums()
 	for i, sum := range list {
 		sig := p.sign(m, sum)
@@ -177,30 +177,30 @@ func TestOtherSum(t *testing.T) {
 	sum := all015()
 	sig := p.sign(m, sum)
 	for bit := range 256 {
-		another(t, p.stands(m.Seed, turnedBit(sum, bit), sig), leaf, "P15.2: Stands, a bit of the sum turned", bit)
+		another(t, p.stands(m.Seed, rows.TurnedBit(sum, bit), sig), leaf, "P15.2: Stands, a bit of the sum turned", bit)
 	}
 }
 
 // P15.2: of another seed, or another key's, likewise.
 func TestOtherSeed(t *testing.T) {
-	m, p, sum := masked(57), place{1, 2, 3}, all015()
+	m, p, sum := rows.Masked(57), place{1, 2, 3}, all015()
 	leaf, sig := p.leaf(m), p.sign(m, sum)
 	for bit := range 256 {
-		seed := turnedBit(m.Seed, bit)
+		seed := rows.TurnedBit(m.Seed, bit)
 		got := p.stands(seed, sum, sig)
 		another(t, got, leaf, "P15.2: Stands, a bit of the seed turned", bit)
 		expect(t, got, byOthers.stands(p, seed, sum, sig), "P15.2: Stands, a bit of the seed turned", bit)
 	}
-	for _, seed := range [][]byte{m.Secret, m.Salt, make([]byte, rowLen), bytes.Repeat([]byte{255}, rowLen), masked(58).Seed} {
+	for _, seed := range [][]byte{m.Secret, m.Salt, make([]byte, rowLen), bytes.Repeat([]byte{255}, rowLen), rows.Masked(58).Seed} {
 		another(t, p.stands(seed, sum, sig), leaf, "P15.2: Stands, another seed")
 	}
-	other := api.Masked{Secret: masked(58).Secret, Salt: m.Salt, Seed: m.Seed}
+	other := api.Masked{Secret: rows.Masked(58).Secret, Salt: m.Salt, Seed: m.Seed}
 	another(t, p.stands(m.Seed, sum, p.sign(other, sum)), leaf, "P15.2: Stands, another secret's")
 }
 
 // P15.2: at another place, whatever number is another one, likewise: so it does even where no chain of the first 64 has to go up.
 func TestOtherPlace(t *testing.T) {
-	m := masked(59)
+	m := rows.Masked(59)
 	for _, sum := range [][]byte{all015(), bytes.Repeat([]byte{255}, rowLen)} {
 		ground := place{1, 2, 3}
 		leaf, sig := ground.leaf(m), ground.sign(m, sum)

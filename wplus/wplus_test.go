@@ -15,7 +15,7 @@ import (
 // P15.1: the chapter's example: a signature has 2144 bytes.
 func TestExample(t *testing.T) {
 	for _, sum := range sums() {
-		if got := len(wplus.Sign(masked(1), 1, 2, 3, sum)); got != 2144 {
+		if got := len(wplus.Sign(rows.Masked(1), 1, 2, 3, sum)); got != 2144 {
 			t.Errorf("P15.1: a signature of %x: %v bytes, not 2144", sum, got)
 		}
 	}
@@ -23,33 +23,27 @@ func TestExample(t *testing.T) {
 
 // P15.1: May, of secrets that may be, and of such as may not, by one of the three alone or by all: nothing comes of those.
 func TestMay(t *testing.T) {
-	for _, m := range maskeds() {
+	for _, m := range rows.Maskeds() {
 		if !wplus.May(m) {
 			t.Errorf("P15.1: not May(%x)", m)
 		}
 	}
-	for _, b := range wrong(rowLen) {
-		for what, m := range without(masked(11), b) {
-			expectNone(t, m, what, len(b))
-		}
-	}
-	expectNone(t, api.Masked{}, "none", 0)
-	// Three that have 96 bytes together aren't three of 32.
-	for _, n := range [][3]int{{31, 33, 32}, {33, 31, 32}, {32, 31, 33}, {32, 33, 31}, {31, 32, 33}, {33, 32, 31}, {0, 32, 64}, {96, 0, 0}} {
-		expectNone(t, api.Masked{Secret: rows.Mixed(n[0], 12), Salt: rows.Mixed(n[1], 12), Seed: rows.Mixed(n[2], 12)}, "together", 96)
+	for _, m := range rows.NoMaskeds() {
+		expectNone(t, m)
 	}
 }
 
 // expectNone tells where secrets may be that may not, or where something comes of them.
-func expectNone(t *testing.T, m api.Masked, what string, n int) {
+func expectNone(t *testing.T, m api.Masked) {
 	t.Helper()
+	what := []int{len(m.Secret), len(m.Salt), len(m.Seed)}
 	if wplus.May(m) {
-		t.Errorf("P15.1: May: %v, %v bytes", what, n)
+		t.Errorf("P15.1: May: %v bytes", what)
 	}
 	for _, p := range []place{{}, {1, 2, 3}} {
-		nothing(t, p.leaf(m), "P15.1: Leaf", what, n)
+		nothing(t, p.leaf(m), "P15.1: Leaf, bytes of secrets", what)
 		for _, sum := range [][]byte{make([]byte, rowLen), all015(), nil, make([]byte, 31)} {
-			nothing(t, p.sign(m, sum), "P15.1: Sign", what, n)
+			nothing(t, p.sign(m, sum), "P15.1: Sign, bytes of secrets", what)
 		}
 	}
 }
@@ -57,7 +51,7 @@ func expectNone(t *testing.T, m api.Masked, what string, n int) {
 // P15.1: May, of every length of each of the three.
 func TestMayLengths(t *testing.T) {
 	for n := range 100 {
-		for what, m := range without(masked(13), rows.Mixed(n, 14)) {
+		for what, m := range rows.WithRow(rows.Masked(13), rows.Mixed(n, 14)) {
 			if got := wplus.May(m); got != (n == 32) {
 				t.Errorf("P15.1: May: %v, %v bytes: %v", what, n, got)
 			}
@@ -67,8 +61,8 @@ func TestMayLengths(t *testing.T) {
 
 // P15.1: Sign, of a sum that hasn't 32 bytes.
 func TestSignRefused(t *testing.T) {
-	for _, m := range maskeds() {
-		for _, b := range wrong(rowLen) {
+	for _, m := range rows.Maskeds() {
+		for _, b := range rows.Wrong(rowLen) {
 			for _, p := range []place{{}, {1, 2, 3}} {
 				nothing(t, p.sign(m, b), "P15.1: Sign, bytes of the sum", len(b))
 			}
@@ -79,7 +73,7 @@ func TestSignRefused(t *testing.T) {
 		if n == 32 {
 			want = sigLen
 		}
-		if got := len(wplus.Sign(masked(15), 1, 2, 3, rows.Mixed(n, 16))); got != want {
+		if got := len(wplus.Sign(rows.Masked(15), 1, 2, 3, rows.Mixed(n, 16))); got != want {
 			t.Errorf("P15.1: Sign of %v bytes: %v bytes, not %v", n, got, want)
 		}
 	}
@@ -87,7 +81,7 @@ func TestSignRefused(t *testing.T) {
 
 // P15.1: the secrets of chains 0, 1 and 66, put together from layer 14's calls alone: a signature of bytes 0 has them as they are.
 func TestSecrets(t *testing.T) {
-	for _, m := range maskeds() {
+	for _, m := range rows.Maskeds() {
 		for _, p := range places() {
 			sig := p.sign(m, make([]byte, rowLen))
 			key := adrs.Prf(m.Secret, adrs.Bytes(api.Adrs{Layer: p.layer, Tree: p.tree, A: p.q}, 0))
@@ -109,7 +103,7 @@ func reached(d int) (sum, last []byte) {
 
 // P15.1: chains 0, 1 and 66, gone up by all steps, from 0 to 15: each step by a call of layer 14, one on the other.
 func TestGoneUp(t *testing.T) {
-	for _, m := range maskeds() {
+	for _, m := range rows.Maskeds() {
 		for _, p := range few() {
 			key := adrs.Prf(m.Secret, adrs.Bytes(api.Adrs{Layer: p.layer, Tree: p.tree, A: p.q}, 0))
 			for _, i := range []int{0, 1, 63, 66} {
@@ -129,7 +123,7 @@ func TestGoneUp(t *testing.T) {
 
 // P15.1: the ends, those of chains 0, 1 and 66 among them, are what the leaf is of: with one bit of any of them turned it is another one.
 func TestEnds(t *testing.T) {
-	m, p := masked(21), place{1, 2, 3}
+	m, p := rows.Masked(21), place{1, 2, 3}
 	ends := byLayers.ends(p, m)
 	leaf := p.leaf(m)
 	expect(t, leaf, byLayers.sumOf(p, m.Seed, ends), "P15.1: Leaf, of the ends")
@@ -153,7 +147,7 @@ func TestEnds(t *testing.T) {
 
 // P15.1: a leaf's rows of 67, 34, 17, 9, 5, 3, 2 and 1, worked out one by one, each sum by a call of layer 14: the last one of an odd row stays.
 func TestRows(t *testing.T) {
-	for _, m := range maskeds() {
+	for _, m := range rows.Maskeds() {
 		for _, p := range few() {
 			list := byLayers.ends(p, m)
 			for g, n := range counts {
@@ -179,7 +173,7 @@ func TestRows(t *testing.T) {
 
 // P15.1: the ways of the first end, and of the last, which stays in most rows, written out.
 func TestRowsWrittenOut(t *testing.T) {
-	m, p := masked(22), place{4, 5, 6}
+	m, p := rows.Masked(22), place{4, 5, 6}
 	ends := byOthers.ends(p, m)
 	stood := func(g, i int) []byte { return byOthers.stood(p, m.Seed, ends, g, i) }
 	h := func(g, i uint32, left, right []byte) []byte { return adrs.H(m.Seed, p.at(rowKind, g, i), left, right) }
@@ -196,9 +190,9 @@ func TestRowsWrittenOut(t *testing.T) {
 func TestSign(t *testing.T) {
 	for _, means := range allMeans {
 		for _, sum := range sums() {
-			expectSigned(t, means, place{1, 2, 3}, masked(23), sum)
+			expectSigned(t, means, place{1, 2, 3}, rows.Masked(23), sum)
 		}
-		for _, m := range maskeds() {
+		for _, m := range rows.Maskeds() {
 			for _, p := range places() {
 				expectSigned(t, means, p, m, all015())
 			}
@@ -229,7 +223,7 @@ func TestSignWrittenOut(t *testing.T) {
 	for d := range 64 {
 		each = append(each, d%16)
 	}
-	m, p := masked(24), place{7, 8, 9}
+	m, p := rows.Masked(24), place{7, 8, 9}
 	for _, c := range []struct {
 		sum  []byte
 		want []int
@@ -238,8 +232,8 @@ func TestSignWrittenOut(t *testing.T) {
 		{bytes.Repeat([]byte{255}, rowLen), append(slices.Repeat([]int{15}, 64), 0, 0, 0)},
 		{bytes.Repeat([]byte{0x1e}, rowLen), append(slices.Repeat([]int{1, 14}, 32), 1, 14, 0)},
 		{all015(), append(each, 1, 14, 0)},
-		{turnedBit(make([]byte, rowLen), 255), append(make([]int, 63), 1, 3, 11, 15)},
-		{turnedBit(make([]byte, rowLen), 0), append(append([]int{8}, make([]int, 63)...), 3, 11, 8)},
+		{rows.TurnedBit(make([]byte, rowLen), 255), append(make([]int, 63), 1, 3, 11, 15)},
+		{rows.TurnedBit(make([]byte, rowLen), 0), append(append([]int{8}, make([]int, 63)...), 3, 11, 8)},
 	} {
 		sig := p.sign(m, c.sum)
 		for i, d := range c.want {
@@ -250,11 +244,11 @@ func TestSignWrittenOut(t *testing.T) {
 
 // P15.1: of two sums that differ in one bit some chain of each goes higher than that of the other, so that neither signature tells the other.
 func TestSignApart(t *testing.T) {
-	m, p := masked(25), place{1, 2, 3}
+	m, p := rows.Masked(25), place{1, 2, 3}
 	for _, ground := range [][]byte{make([]byte, rowLen), all015(), rows.Mixed(rowLen, 26)} {
 		was := p.sign(m, ground)
 		for bit := 0; bit < 256; bit += 5 {
-			sum := turnedBit(ground, bit)
+			sum := rows.TurnedBit(ground, bit)
 			sig := p.sign(m, sum)
 			expect(t, sig, byOthers.sign(p, m, sum), "P15.1: Sign, another bit", bit)
 			a, b := byOthers.digits(ground), byOthers.digits(sum)
@@ -275,7 +269,7 @@ func TestSignApart(t *testing.T) {
 // P15.1: leaves of many secrets and places, put together.
 func TestLeaf(t *testing.T) {
 	for _, means := range allMeans {
-		for _, m := range maskeds() {
+		for _, m := range rows.Maskeds() {
 			for _, p := range places() {
 				expect(t, p.leaf(m), means.leaf(p, m), "P15.1: Leaf", p)
 			}
@@ -303,7 +297,7 @@ func apart(ground place) []place {
 
 // P15.1: leaves whose places differ in one number alone are unlike, and so are their signatures.
 func TestLeafPlaces(t *testing.T) {
-	m, sum := masked(27), all015()
+	m, sum := rows.Masked(27), all015()
 	grounds := []place{few()[0], few()[2]}
 	if testing.Short() {
 		grounds = grounds[:1]
@@ -327,7 +321,7 @@ func TestLeafPlaces(t *testing.T) {
 
 // P15.1: numbers that change their places tell.
 func TestLeafExchanged(t *testing.T) {
-	m, leaves := masked(28), map[string]place{}
+	m, leaves := rows.Masked(28), map[string]place{}
 	for _, p := range []place{{1, 2, 3}, {1, 3, 2}, {2, 1, 3}, {2, 3, 1}, {3, 1, 2}, {3, 2, 1}, {0, 1, 0}, {1, 0, 0}, {0, 0, 1}, {0, 1 << 32, 0}} {
 		leaf := p.leaf(m)
 		if other, ok := leaves[string(leaf)]; ok {
@@ -339,7 +333,7 @@ func TestLeafExchanged(t *testing.T) {
 
 // P15.1: each byte of the secret and of the seed tells in a leaf and in a signature, no byte of the salt does.
 func TestSecretsTell(t *testing.T) {
-	m, p, sum := masked(29), place{1, 2, 3}, all015()
+	m, p, sum := rows.Masked(29), place{1, 2, 3}, all015()
 	leaf, sig := p.leaf(m), p.sign(m, sum)
 	for at := range rowLen {
 		for _, x := range []api.Masked{

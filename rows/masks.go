@@ -1,0 +1,108 @@
+package rows
+
+import (
+	"bytes"
+	"slices"
+
+	"tearoff/api"
+)
+
+// rowLen is how many bytes a row has that is summed with masks.
+const rowLen = 32
+
+// Masked: secrets of a key with masks that may be, and that start marks.
+func Masked(start byte) api.Masked {
+	return api.Masked{Secret: Mixed(rowLen, start), Salt: Mixed(rowLen, start+1), Seed: Mixed(rowLen, start+2)}
+}
+
+// Maskeds: some that may be, noughts and ones among them, and with spare room.
+func Maskeds() []api.Masked {
+	noughts, ones, spare := make([]byte, rowLen), bytes.Repeat([]byte{255}, rowLen), Guarded(Mixed(rowLen, 4))
+	return []api.Masked{Masked(1), {Secret: noughts, Salt: noughts, Seed: noughts}, {Secret: ones, Salt: ones, Seed: ones}, {Secret: spare, Salt: spare, Seed: spare}}
+}
+
+// WithRow: m with each of its three alone being b, and with all of them.
+func WithRow(m api.Masked, b []byte) map[string]api.Masked {
+	return map[string]api.Masked{
+		"Secret": {Secret: b, Salt: m.Salt, Seed: m.Seed},
+		"Salt":   {Secret: m.Secret, Salt: b, Seed: m.Seed},
+		"Seed":   {Secret: m.Secret, Salt: m.Salt, Seed: b},
+		"all":    {Secret: b, Salt: b, Seed: b},
+	}
+}
+
+// NoMaskeds: such as may not be, by one of the three alone or by all; some have 96 bytes together.
+func NoMaskeds() []api.Masked {
+	out := []api.Masked{{}}
+	for _, b := range Wrong(rowLen) {
+		for _, m := range WithRow(Masked(11), b) {
+			out = append(out, m)
+		}
+	}
+	for _, n := range [][3]int{{31, 33, 32}, {33, 31, 32}, {32, 31, 33}, {32, 33, 31}, {31, 32, 33}, {33, 32, 31}, {0, 32, 64}, {96, 0, 0}} {
+		out = append(out, api.Masked{Secret: Mixed(n[0], 12), Salt: Mixed(n[1], 12), Seed: Mixed(n[2], 12)})
+	}
+	return out
+}
+
+// Wrong: rows that haven't n bytes: none, too few, too many, with room for the rest, and such as by the last bytes of their length would have n.
+func Wrong(n int) [][]byte {
+	out := [][]byte{nil, {}, Guarded(nil), Mixed(256+n, 9), Mixed(1<<16+n, 9)}
+	lengths := []int{n - 32, n - 1, n + 1, n + 32, 2 * n}
+	for length := range 100 {
+		lengths = append(lengths, length)
+	}
+	for _, length := range lengths {
+		if length > 0 && length != n {
+			out = append(out, both(length, n, 10)...)
+		}
+	}
+	return out
+}
+
+// TurnedBit: b with another bit, in memory of its own.
+func TurnedBit(b []byte, bit int) []byte {
+	out := slices.Clone(b)
+	out[bit/8] ^= 128 >> (bit % 8)
+	return out
+}
+
+// Sum is how bytes are summed, of which layer 14's sums with masks are put together here by hand.
+type Sum func(text []byte) []byte
+
+// Num: the sum of k as 32 bytes, and of all, one behind the other.
+func (s Sum) Num(k byte, list ...[]byte) []byte {
+	return s(slices.Concat(append([][]byte{append(make([]byte, rowLen-1), k)}, list...)...))
+}
+
+// Prf, F, H: what layer 14 must answer.
+func (s Sum) Prf(key, text []byte) []byte { return s.Num(3, key, text) }
+
+func (s Sum) F(seed []byte, a api.Adrs, x []byte) []byte {
+	return s.Num(0, s.told(seed, a, 0), xor(x, s.told(seed, a, 1)))
+}
+
+func (s Sum) H(seed []byte, a api.Adrs, left, right []byte) []byte {
+	return s.Num(1, s.told(seed, a, 0), xor(left, s.told(seed, a, 1)), xor(right, s.told(seed, a, 2)))
+}
+
+// told: what a seed and an address tell with k.
+func (s Sum) told(seed []byte, a api.Adrs, k uint32) []byte { return s.Prf(seed, Laid(a, k)) }
+
+// Laid: an address as bytes, with k.
+func Laid(a api.Adrs, k uint32) []byte {
+	var out []byte
+	for _, v := range []uint32{a.Layer, uint32(a.Tree >> 32), uint32(a.Tree), a.Kind, a.A, a.B, a.C, k} {
+		out = append(out, byte(v>>24), byte(v>>16), byte(v>>8), byte(v))
+	}
+	return out
+}
+
+// xor: a ^ b, of rows of 32 bytes.
+func xor(a, b []byte) []byte {
+	out := make([]byte, rowLen)
+	for i := range out {
+		out[i] = a[i] ^ b[i]
+	}
+	return out
+}
