@@ -11,14 +11,20 @@ import (
 const rowLen = 32
 
 // Masked: secrets of a key with masks that may be, and that start marks.
-func Masked(start byte) api.Masked {
-	return api.Masked{Secret: Mixed(rowLen, start), Salt: Mixed(rowLen, start+1), Seed: Mixed(rowLen, start+2)}
+func Masked(start byte) api.Masked { return MaskedOf(rowLen, start) }
+
+// MaskedOf: likewise, of rows of n bytes.
+func MaskedOf(n int, start byte) api.Masked {
+	return api.Masked{Secret: Mixed(n, start), Salt: Mixed(n, start+1), Seed: Mixed(n, start+2)}
 }
 
 // Maskeds: some that may be, noughts and ones among them, and with spare room.
-func Maskeds() []api.Masked {
-	noughts, ones, spare := make([]byte, rowLen), bytes.Repeat([]byte{255}, rowLen), Guarded(Mixed(rowLen, 4))
-	return []api.Masked{Masked(1), {Secret: noughts, Salt: noughts, Seed: noughts}, {Secret: ones, Salt: ones, Seed: ones}, {Secret: spare, Salt: spare, Seed: spare}}
+func Maskeds() []api.Masked { return MaskedsOf(rowLen) }
+
+// MaskedsOf: likewise, of rows of n bytes.
+func MaskedsOf(n int) []api.Masked {
+	noughts, ones, spare := make([]byte, n), bytes.Repeat([]byte{255}, n), Guarded(Mixed(n, 4))
+	return []api.Masked{MaskedOf(n, 1), {Secret: noughts, Salt: noughts, Seed: noughts}, {Secret: ones, Salt: ones, Seed: ones}, {Secret: spare, Salt: spare, Seed: spare}}
 }
 
 // WithRow: m with each of its three alone being b, and with all of them.
@@ -31,16 +37,19 @@ func WithRow(m api.Masked, b []byte) map[string]api.Masked {
 	}
 }
 
-// NoMaskeds: such as may not be, by one of the three alone or by all; some have 96 bytes together.
-func NoMaskeds() []api.Masked {
+// NoMaskeds: such as may not be, by one of the three alone or by all; some have as many bytes together as must be.
+func NoMaskeds() []api.Masked { return NoMaskedsOf(rowLen) }
+
+// NoMaskedsOf: likewise, where the rows must have n bytes.
+func NoMaskedsOf(n int) []api.Masked {
 	out := []api.Masked{{}}
-	for _, b := range Wrong(rowLen) {
-		for _, m := range WithRow(Masked(11), b) {
+	for _, b := range Wrong(n) {
+		for _, m := range WithRow(MaskedOf(n, 11), b) {
 			out = append(out, m)
 		}
 	}
-	for _, n := range [][3]int{{31, 33, 32}, {33, 31, 32}, {32, 31, 33}, {32, 33, 31}, {31, 32, 33}, {33, 32, 31}, {0, 32, 64}, {96, 0, 0}} {
-		out = append(out, api.Masked{Secret: Mixed(n[0], 12), Salt: Mixed(n[1], 12), Seed: Mixed(n[2], 12)})
+	for _, list := range [][3]int{{n - 1, n + 1, n}, {n + 1, n - 1, n}, {n, n - 1, n + 1}, {n, n + 1, n - 1}, {n - 1, n, n + 1}, {n + 1, n, n - 1}, {0, n, 2 * n}, {3 * n, 0, 0}} {
+		out = append(out, api.Masked{Secret: Mixed(list[0], 12), Salt: Mixed(list[1], 12), Seed: Mixed(list[2], 12)})
 	}
 	return out
 }
@@ -88,6 +97,15 @@ func (s Sum) H(seed []byte, a api.Adrs, left, right []byte) []byte {
 
 // told: what a seed and an address tell with k.
 func (s Sum) told(seed []byte, a api.Adrs, k uint32) []byte { return s.Prf(seed, Laid(a, k)) }
+
+// Wide is how a text is summed into n bytes, of which layer 14's sums without masks are put together here by hand.
+type Wide func(text []byte, n int) []byte
+
+// Tweak: what layer 14 must answer.
+func (s Wide) Tweak(n int, seed []byte, a api.Adrs, text []byte) []byte {
+	at := Laid(a, 0)
+	return s(slices.Concat(seed, at[:4], make([]byte, 4), at[4:28], text), n)
+}
 
 // Laid: an address as bytes, with k.
 func Laid(a api.Adrs, k uint32) []byte {
