@@ -38,10 +38,7 @@ func TestKeepsApart(t *testing.T) {
 // P17.1: Made leaves its rows as they were, and hangs on no spare room.
 func TestMadeKeepsApart(t *testing.T) {
 	made := func(in [][]byte) []byte {
-		if fors.Made(base, api.Masked{Secret: in[0], Salt: in[1], Seed: in[2]}) {
-			return []byte{1}
-		}
-		return nil
+		return rows.Yes(fors.Made(base, api.Masked{Secret: in[0], Salt: in[1], Seed: in[2]}))
 	}
 	for n := 14; n < 18; n++ {
 		m := rows.MaskedOf(n, 83)

@@ -23,10 +23,10 @@ func TestExample(t *testing.T) {
 
 // mayBe: whether a set may be, told by what stands in lists.
 func mayBe(f api.Few) bool {
-	if !slices.Contains([]int{16, 24, 32}, f.N) || f.Height < 1 || f.Height > len(most) {
+	if !slices.Contains([]int{16, 24, 32}, f.N) || f.Height < 1 || f.Height > len(rows.MostLayers()) {
 		return false
 	}
-	return f.Layers > 0 && f.Layers <= most[f.Height-1] && f.K > 0 && f.K < 41 && f.A > 0 && f.A < 15
+	return f.Layers > 0 && f.Layers <= rows.MostLayers()[f.Height-1] && f.K > 0 && f.K < 41 && f.A > 0 && f.A < 15
 }
 
 // P17.1: May, of all numbers near those that may be, each beside each other one.
@@ -98,17 +98,17 @@ func TestMayEdges(t *testing.T) {
 
 // P17.1: May of the greatest and the least numbers, and of others that are far, in each place alone and in two at once.
 func TestMayFar(t *testing.T) {
-	for _, f := range noSets() {
+	for _, f := range rows.NoFews() {
 		if fors.May(f) || mayBe(f) {
 			t.Errorf("P17.1: May, %v", f)
 		}
 	}
 	for i := range 5 {
 		for j := range 5 {
-			for _, v := range far() {
-				for _, w := range far() {
+			for _, v := range rows.Far() {
+				for _, w := range rows.Far() {
 					f := base
-					*fields(&f)[i], *fields(&f)[j] = v, w
+					*rows.FewFields(&f)[i], *rows.FewFields(&f)[j] = v, w
 					if fors.May(f) {
 						t.Errorf("P17.1: May, %v", f)
 					}
@@ -116,7 +116,7 @@ func TestMayFar(t *testing.T) {
 			}
 		}
 	}
-	for _, f := range append(append(few(), tooHigh()...), base, greatest) {
+	for _, f := range append(append(few(), rows.HighFews()...), base, greatest) {
 		if !fors.May(f) {
 			t.Errorf("P17.1: not May, %v", f)
 		}
@@ -149,7 +149,7 @@ func TestMade(t *testing.T) {
 
 // P17.1: Made tells no of sets that may not be, and of those that are too high, whatever the secrets are.
 func TestMadeNoSets(t *testing.T) {
-	for _, f := range append(noSets(), tooHigh()...) {
+	for _, f := range append(rows.NoFews(), rows.HighFews()...) {
 		for _, n := range []int{0, 1, 8, 15, 16, 17, 24, 32, 33} {
 			if fors.Made(f, rows.MaskedOf(n, 2)) {
 				t.Errorf("P17.1: Made, %v, secrets of %v bytes", f, n)
@@ -190,7 +190,7 @@ func expectDigits(t *testing.T, f api.Few, b []byte) {
 	for _, d := range got {
 		fmt.Fprintf(&all, "%0*b", f.A, d)
 	}
-	if text := all.String(); len(text) != f.K*f.A || !strings.HasPrefix(letters(b), text) {
+	if text := all.String(); len(text) != f.K*f.A || !strings.HasPrefix(rows.Bits(b), text) {
 		t.Errorf("P17.1: Digits, %v, of %x: put together %v", f, b, text)
 	}
 }
@@ -272,7 +272,7 @@ func TestDigitsBits(t *testing.T) {
 
 // P17.1: the digits hang on K and A alone: sets that may be, but can't be made, have them too.
 func TestDigitsOfEachSet(t *testing.T) {
-	for i, high := range most {
+	for i, high := range rows.MostLayers() {
 		for layers := 1; layers <= high; layers++ {
 			for _, n := range []int{16, 24, 32} {
 				f := api.Few{N: n, Layers: layers, Height: i + 1, K: 5, A: 11}
@@ -281,7 +281,7 @@ func TestDigitsOfEachSet(t *testing.T) {
 			}
 		}
 	}
-	for _, f := range tooHigh() {
+	for _, f := range rows.HighFews() {
 		for _, b := range enough(f, 10) {
 			expectDigits(t, f, b)
 		}
@@ -290,7 +290,7 @@ func TestDigitsOfEachSet(t *testing.T) {
 
 // P17.1: nothing of a set that may not be, however many bytes there are.
 func TestDigitsNoSets(t *testing.T) {
-	for _, f := range noSets() {
+	for _, f := range rows.NoFews() {
 		for _, b := range [][]byte{nil, {}, {0}, rows.Mixed(70, 11), rows.Mixed(1<<12, 11)} {
 			noDigits(t, f, b)
 		}

@@ -6,9 +6,6 @@ import (
 	"fmt"
 	"math"
 	"slices"
-	"strconv"
-	"strings"
-	"testing"
 
 	"tearoff/adrs"
 	"tearoff/api"
@@ -154,25 +151,12 @@ func row(f api.Few, b []byte, i int) []byte { return b[f.N*i : f.N*(i+1)] }
 func partLen(f api.Few) int { return f.N + f.A*f.N }
 func toldLen(f api.Few) int { return f.K*f.A*f.N + f.K*f.N }
 
-// letters: the bits of bytes as letters, from the front on.
-func letters(b []byte) string {
-	var out strings.Builder
-	for _, c := range b {
-		fmt.Fprintf(&out, "%08b", c)
-	}
-	return out.String()
-}
-
 // split: the digits of bytes, read off the letters of their bits.
 func split(f api.Few, b []byte) []uint32 {
-	text := letters(b)
+	text := rows.Bits(b)
 	var out []uint32
 	for range f.K {
-		v, err := strconv.ParseUint(text[:f.A], 2, 32)
-		if err != nil {
-			panic(err)
-		}
-		out, text = append(out, uint32(v)), text[f.A:]
+		out, text = append(out, uint32(rows.FromBits(text[:f.A]))), text[f.A:]
 	}
 	return out
 }
@@ -201,9 +185,6 @@ func tooFew(f api.Few) [][]byte {
 	return out
 }
 
-// most: of each height from 1 on how many layers there may be.
-var most = []int{22, 22, 22, 16, 13, 11, 10, 8, 8}
-
 // base is a set that may be and can be made, and the greatest that can be.
 var (
 	base     = api.Few{N: 16, Layers: 2, Height: 2, K: 2, A: 2}
@@ -223,72 +204,5 @@ func few() []api.Few {
 	return out
 }
 
-// fields: the numbers of a set.
-func fields(f *api.Few) []*int { return []*int{&f.N, &f.Layers, &f.Height, &f.K, &f.A} }
-
-// far: numbers that are none of any set: far ones, and such as are alike to some by their last bits.
-func far() []int {
-	return []int{-1, -16, -255, -256, math.MinInt32, math.MinInt, math.MinInt + 1, math.MinInt + 16, math.MinInt / 2, 64, 65, 100, 256, 256 + 16, 1<<16 + 1, 1<<16 + 16, 1 << 31, 1 << 32, 1<<32 + 1, 1<<32 + 16, 1 << 61, 1<<62 + 1, math.MaxInt/2 + 1, math.MaxInt - 1, math.MaxInt}
-}
-
-// noSets: sets that may not be, by one of their numbers alone, by two that go too high together, and by all.
-func noSets() []api.Few {
-	out := []api.Few{{}, {N: -16, Layers: -1, Height: -1, K: -1, A: -1}, {N: 16, Layers: 23, Height: 10, K: 41, A: 15}}
-	for _, f := range []api.Few{base, {N: 24, Layers: 1, Height: 1, K: 1, A: 1}, {N: 32, Layers: 1, Height: 1, K: 40, A: 14}} {
-		bad := [][]int{{0, 1, 8, 15, 17, 20, 23, 25, 31, 33, 40, 48}, {0, 23, 24}, {0, 10, 11}, {0, 41, 42}, {0, 15, 16, 32}}
-		for i, list := range bad {
-			for _, v := range append(list, far()...) {
-				x := f
-				*fields(&x)[i] = v
-				out = append(out, x)
-			}
-		}
-		for _, v := range far() {
-			out = append(out, api.Few{N: v, Layers: v, Height: v, K: v, A: v})
-		}
-		for i, d := range most {
-			for layers := d + 1; layers <= 23; layers++ {
-				out = append(out, api.Few{N: f.N, Layers: layers, Height: i + 1, K: f.K, A: f.A})
-			}
-		}
-	}
-	return out
-}
-
-// tooHigh: sets that may be, but can't be made.
-func tooHigh() []api.Few {
-	var out []api.Few
-	for _, n := range []int{16, 24, 32} {
-		for high := 7; high <= 14; high++ {
-			out = append(out, api.Few{N: n, Layers: 1, Height: 1, K: 1, A: high}, api.Few{N: n, Layers: 11, Height: 6, K: 40, A: high})
-			if high <= 9 {
-				out = append(out, api.Few{N: n, Layers: 1, Height: high, K: 1, A: 1}, api.Few{N: n, Layers: 8, Height: high, K: 40, A: 6}, api.Few{N: n, Layers: 1, Height: high, K: 2, A: high})
-			}
-		}
-	}
-	return out
-}
-
-// expect tells where bytes aren't those that they must be.
-func expect(t *testing.T, got, want []byte, what ...any) {
-	t.Helper()
-	if len(want) == 0 || !bytes.Equal(got, want) {
-		t.Errorf("%v: %v bytes, %.40x.., not %v, %.40x..", what, len(got), got, len(want), want)
-	}
-}
-
-// nothing tells where bytes are there that may not be.
-func nothing(t *testing.T, got []byte, what ...any) {
-	t.Helper()
-	if len(got) != 0 {
-		t.Errorf("%v: %v bytes, %.40x.., not nothing", what, len(got), got)
-	}
-}
-
-// unlike tells where bytes are the same that may not be, or are none.
-func unlike(t *testing.T, got, other []byte, what ...any) {
-	t.Helper()
-	if len(got) == 0 || bytes.Equal(got, other) {
-		t.Errorf("%v: %v bytes, %.40x.., alike or none", what, len(got), got)
-	}
-}
+// expect, nothing, unlike: how tests tell of bytes.
+var expect, nothing, unlike = rows.Expect, rows.Nothing, rows.Unlike

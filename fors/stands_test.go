@@ -96,7 +96,7 @@ func TestStandsOfEachSet(t *testing.T) {
 	for k := 1; k <= 40; k++ {
 		for a := 1; a <= 14; a++ {
 			height := 1 + (k+a)%9
-			f := api.Few{N: []int{16, 24, 32}[(k+a)%3], Layers: 1 + k%most[height-1], Height: height, K: k, A: a}
+			f := api.Few{N: []int{16, 24, 32}[(k+a)%3], Layers: 1 + k%rows.MostLayers()[height-1], Height: height, K: k, A: a}
 			seed, told := rows.Mixed(f.N, 47), rows.Mixed(toldLen(f), byte(a))
 			for _, b := range enough(f, byte(k)) {
 				expect(t, p.stands(f, seed, b, told), byOthers.stands(f, seed, p, b, told), "P17.3: Stands", f, b)
@@ -107,7 +107,7 @@ func TestStandsOfEachSet(t *testing.T) {
 
 // P17.3: noughts and ones, of sets that may be, but can't be made.
 func TestStandsTooHigh(t *testing.T) {
-	for _, f := range tooHigh() {
+	for _, f := range rows.HighFews() {
 		for _, m := range rows.MaskedsOf(f.N) {
 			for _, told := range [][]byte{make([]byte, toldLen(f)), bytes.Repeat([]byte{255}, toldLen(f))} {
 				b := rows.Mixed(needed(f), 48)
@@ -256,7 +256,7 @@ func TestStandsMore(t *testing.T) {
 
 // P17.3: nothing of a set that may not be, even of rows that would be those of it.
 func TestStandsNoSets(t *testing.T) {
-	for _, f := range noSets() {
+	for _, f := range rows.NoFews() {
 		for _, n := range []int{0, 16, 24, 32} {
 			nothing(t, fors.Stands(f, rows.Mixed(n, 67), 5, 6, rows.Mixed(70, 68), nil), "P17.3: Stands", f, n)
 			nothing(t, fors.Stands(f, rows.Mixed(n, 67), 5, 6, nil, nil), "P17.3: Stands", f, n)

@@ -180,7 +180,7 @@ func TestLayersDontTell(t *testing.T) {
 	p, m, b := place{7, 8}, rows.MaskedOf(16, 27), []byte{0xb0}
 	g := byOthers.grow(base, m, p)
 	for height := 1; height <= 6; height++ {
-		for layers := 1; layers <= most[height-1]; layers++ {
+		for layers := 1; layers <= rows.MostLayers()[height-1]; layers++ {
 			f := api.Few{N: 16, Layers: layers, Height: height, K: base.K, A: base.A}
 			expect(t, p.whole(f, m), g.whole, "P17.2: Whole", f)
 			expect(t, p.tell(f, m, b), g.tell(b), "P17.2: Tell", f)
@@ -264,7 +264,7 @@ func expectNone(t *testing.T, f api.Few, m api.Masked, what ...any) {
 
 // P17.2: nothing of sets that may not be, nor of such as may be, but can't be made.
 func TestNoSets(t *testing.T) {
-	for _, f := range append(noSets(), tooHigh()...) {
+	for _, f := range append(rows.NoFews(), rows.HighFews()...) {
 		for _, n := range []int{0, 16, 24, 32} {
 			expectNone(t, f, rows.MaskedOf(n, 35), "secrets of", n)
 		}

@@ -21,14 +21,6 @@ func told(places []uint32, e api.Code) []byte {
 	return out
 }
 
-// yes: a row that tells whether it is so.
-func yes(so bool) []byte {
-	if so {
-		return []byte{1}
-	}
-	return nil
-}
-
 // P13.2, P13.3: what was handed in stays as it was, its spare room too, and isn't shared nor kept; nor do answers share memory.
 func TestKeepsApart(t *testing.T) {
 	each(t, few(), func(t *testing.T, l []api.Pair) {
@@ -43,8 +35,8 @@ func TestKeepsApart(t *testing.T) {
 			},
 			"Sign":           func(in [][]byte) []byte { got, _ := hss.Sign(l, seed(in), n, in[2]); return got },
 			"Sign, no index": func(in [][]byte) []byte { got, _ := hss.Sign(l, seed(in), n+1, in[2]); return got },
-			"Fits":           func(in [][]byte) []byte { return yes(hss.Fits(in[3], in[2], in[4])) },
-			"Fits, refused":  func(in [][]byte) []byte { return yes(hss.Fits(in[3], in[2], in[4][:9])) },
+			"Fits":           func(in [][]byte) []byte { return rows.Yes(hss.Fits(in[3], in[2], in[4])) },
+			"Fits, refused":  func(in [][]byte) []byte { return rows.Yes(hss.Fits(in[3], in[2], in[4][:9])) },
 			"Read":           func(in [][]byte) []byte { return told(hss.Read(in[3], in[4])) },
 			"Read, refused":  func(in [][]byte) []byte { return told(hss.Read(in[3], in[4][:9])) },
 		} {

@@ -10,14 +10,6 @@ import (
 	"tearoff/rows"
 )
 
-// yes: a row that tells whether it is so.
-func yes(so bool) []byte {
-	if so {
-		return []byte{1}
-	}
-	return nil
-}
-
 // named: a row that tells a pair.
 func named(p api.Pair, e api.Code) []byte {
 	return append(codes(p), byte(e))
@@ -37,8 +29,8 @@ func TestKeepsApart(t *testing.T) {
 			},
 			"Sign":          func(in [][]byte) []byte { got, _ := lms.Sign(f.pair, seed(in), 1, in[2]); return got },
 			"Sign, no leaf": func(in [][]byte) []byte { got, _ := lms.Sign(f.pair, seed(in), f.leaves(), in[2]); return got },
-			"Fits":          func(in [][]byte) []byte { return yes(lms.Fits(in[3], in[2], in[4])) },
-			"Fits, refused": func(in [][]byte) []byte { return yes(lms.Fits(in[3], in[2], in[4][:9])) },
+			"Fits":          func(in [][]byte) []byte { return rows.Yes(lms.Fits(in[3], in[2], in[4])) },
+			"Fits, refused": func(in [][]byte) []byte { return rows.Yes(lms.Fits(in[3], in[2], in[4][:9])) },
 			"Pair":          func(in [][]byte) []byte { return named(lms.Pair(in[3])) },
 			"Pair, refused": func(in [][]byte) []byte { return named(lms.Pair(in[3][:9])) },
 		} {

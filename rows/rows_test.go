@@ -2,6 +2,7 @@ package rows_test
 
 import (
 	"bytes"
+	"slices"
 	"testing"
 
 	"tearoff/rows"
@@ -54,5 +55,54 @@ func TestApartList(t *testing.T) {
 		if got := rows.ApartList(c.call, []byte("abc"), []byte("de")); got != c.want {
 			t.Errorf("%v: %q, not %q", c.what, got, c.want)
 		}
+	}
+}
+
+// faults counts what a test is told.
+type faults int
+
+func (f *faults) Helper() {}
+
+func (f *faults) Errorf(string, ...any) { *f++ }
+
+// Expect, Nothing and Unlike tell where rows aren't what they must be, and only there.
+func TestExpect(t *testing.T) {
+	a, b := []byte("a"), []byte("b")
+	for _, c := range []struct {
+		what string
+		tell func(t rows.Tester)
+		want faults
+	}{
+		{"Expect, the same", func(t rows.Tester) { rows.Expect(t, a, []byte("a")) }, 0},
+		{"Expect, another", func(t rows.Tester) { rows.Expect(t, a, b) }, 1},
+		{"Expect, longer", func(t rows.Tester) { rows.Expect(t, []byte("aa"), a) }, 1},
+		{"Expect, of nothing nothing", func(t rows.Tester) { rows.Expect(t, nil, nil) }, 1},
+		{"Nothing, nil", func(t rows.Tester) { rows.Nothing(t, nil) }, 0},
+		{"Nothing, empty", func(t rows.Tester) { rows.Nothing(t, []byte{}) }, 0},
+		{"Nothing, a byte", func(t rows.Tester) { rows.Nothing(t, a) }, 1},
+		{"Unlike, another", func(t rows.Tester) { rows.Unlike(t, a, b) }, 0},
+		{"Unlike, the same", func(t rows.Tester) { rows.Unlike(t, a, []byte("a")) }, 1},
+		{"Unlike, nothing", func(t rows.Tester) { rows.Unlike(t, nil, a) }, 1},
+	} {
+		var got faults
+		if c.tell(&got); got != c.want {
+			t.Errorf("%v: %v faults, not %v", c.what, got, c.want)
+		}
+	}
+}
+
+// Bits, FromBits and Digits read off letters.
+func TestLetters(t *testing.T) {
+	if got := rows.Bits([]byte{0, 1, 0x80, 0xb4}); got != "00000000"+"00000001"+"10000000"+"10110100" {
+		t.Errorf("Bits: %v", got)
+	}
+	for text, want := range map[string]uint64{"": 0, "0": 0, "101": 5, "0000110": 6} {
+		if got := rows.FromBits(text); got != want {
+			t.Errorf("FromBits, %q: %v, not %v", text, got, want)
+		}
+	}
+	// They lack 15 + 0 + 13 + 11, 39, which is 0x027.
+	if got := rows.Digits([]byte{0x0f, 0x24}); !slices.Equal(got, []int{0, 15, 2, 4, 0, 2, 7}) {
+		t.Errorf("Digits: %v", got)
 	}
 }

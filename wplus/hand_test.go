@@ -3,9 +3,7 @@ package wplus_test
 import (
 	"bytes"
 	"crypto/sha256"
-	"fmt"
 	"math"
-	"strconv"
 	"testing"
 
 	"tearoff/adrs"
@@ -69,7 +67,7 @@ var others = rows.Sum(otherSum)
 // byLayers are the layers 14 and 7, byOthers are those sums, and digits read off a number's bits.
 var (
 	byLayers = means{adrs.Prf, adrs.F, adrs.H, func(sum []byte) []int { return digits.All(sum, 4) }}
-	byOthers = means{others.Prf, others.F, others.H, otherDigits}
+	byOthers = means{others.Prf, others.F, others.H, rows.Digits}
 	allMeans = []means{byLayers, byOthers}
 )
 
@@ -77,28 +75,6 @@ var (
 func otherSum(text []byte) []byte {
 	s := sha256.Sum256(text)
 	return s[:]
-}
-
-// otherDigits: all digits of a sum, read off its bits, four by four, and off those of what they lack.
-func otherDigits(sum []byte) []int {
-	text, lack := fmt.Sprintf("%x", sum), 0
-	for _, c := range text {
-		lack += top - digit(c)
-	}
-	var out []int
-	for _, c := range text + fmt.Sprintf("%03x", lack) {
-		out = append(out, digit(c))
-	}
-	return out
-}
-
-// digit: what a letter is, of base 16.
-func digit(c rune) int {
-	d, err := strconv.ParseInt(string(c), 16, 64)
-	if err != nil {
-		panic(err)
-	}
-	return int(d)
 }
 
 // row: i as 32 bytes.
@@ -200,21 +176,8 @@ func sums() [][]byte {
 	return out
 }
 
-// expect tells where bytes aren't those that they must be.
-func expect(t *testing.T, got, want []byte, what ...any) {
-	t.Helper()
-	if len(want) == 0 || !bytes.Equal(got, want) {
-		t.Errorf("%v: %v bytes, %x, not %v, %x", what, len(got), got, len(want), want)
-	}
-}
-
-// nothing tells where bytes are there that may not be.
-func nothing(t *testing.T, got []byte, what ...any) {
-	t.Helper()
-	if len(got) != 0 {
-		t.Errorf("%v: %v bytes, %x, not nothing", what, len(got), got)
-	}
-}
+// expect, nothing: how tests tell of bytes.
+var expect, nothing = rows.Expect, rows.Nothing
 
 // another tells where bytes aren't those of some leaf, or are those of one that they must differ from.
 func another(t *testing.T, got, leaf []byte, what ...any) {

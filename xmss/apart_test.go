@@ -9,17 +9,6 @@ import (
 	"tearoff/xmss"
 )
 
-// yes: a row that tells whether it is so.
-func yes(so bool) []byte {
-	if so {
-		return []byte{1}
-	}
-	return nil
-}
-
-// told: a row that tells a signature, and a code.
-func told(sig []byte, e api.Code) []byte { return append([]byte{byte(e)}, sig...) }
-
 // P16.1, P16.2, P16.3: what was handed in stays as it was, its spare room too, and isn't shared nor kept; nor do answers share memory: what was answered may be written over.
 func TestKeepsApart(t *testing.T) {
 	m, text := rows.Masked(81), []byte("apart")
@@ -35,10 +24,10 @@ func TestKeepsApart(t *testing.T) {
 			"Sign, refused":     func(in [][]byte) []byte { sig, _ := xmss.Sign(x, bad(in), 1, in[3]); return sig },
 			"Sign, no index":    func(in [][]byte) []byte { sig, _ := xmss.Sign(x, of(in), xmss.Total(x), in[3]); return sig },
 			"Sign, of a secret": func(in [][]byte) []byte { sig, _ := xmss.Sign(x, of(in), 1, in[0]); return sig },
-			"Fits":              func(in [][]byte) []byte { return yes(xmss.Fits(x, in[4], in[3], in[5])) },
-			"Fits, refused":     func(in [][]byte) []byte { return yes(xmss.Fits(x, in[4], in[3], in[5][:99])) },
-			"Fits, no fit":      func(in [][]byte) []byte { return yes(xmss.Fits(x, in[4], in[0], in[5])) },
-			"Fits, one for all": func(in [][]byte) []byte { return yes(xmss.Fits(x, in[5][:64], in[5], in[5])) },
+			"Fits":              func(in [][]byte) []byte { return rows.Yes(xmss.Fits(x, in[4], in[3], in[5])) },
+			"Fits, refused":     func(in [][]byte) []byte { return rows.Yes(xmss.Fits(x, in[4], in[3], in[5][:99])) },
+			"Fits, no fit":      func(in [][]byte) []byte { return rows.Yes(xmss.Fits(x, in[4], in[0], in[5])) },
+			"Fits, one for all": func(in [][]byte) []byte { return rows.Yes(xmss.Fits(x, in[5][:64], in[5], in[5])) },
 		} {
 			if how := rows.Apart(call, m.Secret, m.Salt, m.Seed, text, xmss.Public(x, m), sign(t, x, m, 1, text)); how != "" {
 				t.Errorf("P16: %v, %v: %v", what, x, how)
@@ -80,19 +69,19 @@ func TestAfterRefused(t *testing.T) {
 	m, text := rows.Masked(84), []byte("again")
 	bad := api.Masked{Secret: m.Secret, Salt: m.Salt, Seed: m.Seed[:31]}
 	for _, x := range few() {
-		pub, sig := byOthers.public(x, m), told(byOthers.sign(x, m, 1, text), api.OK)
+		pub, sig := byOthers.public(x, m), rows.Told(byOthers.sign(x, m, 1, text), api.OK)
 		for range 2 {
 			nothing(t, xmss.Public(x, bad), "P16.1: Public, a short seed")
 			expect(t, xmss.Public(x, m), pub, "P16.1: Public, behind a refused one", x)
 			refused(t, x, bad, 1, text, api.Arg)
 			refused(t, x, m, xmss.Total(x), text, api.Exhausted)
 			refused(t, api.Shape{Layers: 1, Height: 7}, m, 0, text, api.Arg)
-			expect(t, told(xmss.Sign(x, m, 1, text)), sig, "P16.2: Sign, behind a refused one", x)
+			expect(t, rows.Told(xmss.Sign(x, m, 1, text)), sig, "P16.2: Sign, behind a refused one", x)
 			none(t, x, pub, text, sig, "a byte too many")
 			none(t, x, pub, nil, sig[1:], "another text")
 			fits(t, x, pub, text, sig[1:], "behind a refused one")
 			sign(t, x, rows.Masked(85), 0, text)
-			expect(t, told(xmss.Sign(x, m, 1, text)), sig, "P16.2: Sign, behind another key's", x)
+			expect(t, rows.Told(xmss.Sign(x, m, 1, text)), sig, "P16.2: Sign, behind another key's", x)
 		}
 	}
 }

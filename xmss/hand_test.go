@@ -6,7 +6,6 @@ import (
 	"encoding/binary"
 	"fmt"
 	"slices"
-	"strconv"
 	"testing"
 
 	"tearoff/adrs"
@@ -66,19 +65,10 @@ func split(x api.Shape, n uint64) []place {
 	var out []place
 	for layer := range x.Layers {
 		at := len(text) - x.Height
-		out = append(out, place{uint32(layer), bits("0" + text[:at]), uint32(bits(text[at:]))})
+		out = append(out, place{uint32(layer), rows.FromBits(text[:at]), uint32(rows.FromBits(text[at:]))})
 		text = text[:at]
 	}
 	return out
-}
-
-// bits: the number that these letters tell.
-func bits(text string) uint64 {
-	v, err := strconv.ParseUint(text, 2, 64)
-	if err != nil {
-		panic(err)
-	}
-	return v
 }
 
 // leafAt is what a leaf hangs on.
@@ -235,21 +225,8 @@ func all(x api.Shape) []uint64 {
 	return out
 }
 
-// expect tells where bytes aren't those that they must be.
-func expect(t *testing.T, got, want []byte, what ...any) {
-	t.Helper()
-	if len(want) == 0 || !bytes.Equal(got, want) {
-		t.Errorf("%v: %v bytes, %.40x.., not %v, %.40x..", what, len(got), got, len(want), want)
-	}
-}
-
-// nothing tells where bytes are there that may not be.
-func nothing(t *testing.T, got []byte, what ...any) {
-	t.Helper()
-	if len(got) != 0 {
-		t.Errorf("%v: %v bytes, %.40x.., not nothing", what, len(got), got)
-	}
-}
+// expect, nothing: how tests tell of bytes.
+var expect, nothing = rows.Expect, rows.Nothing
 
 // sign: the signature at an index, which must be there.
 func sign(t *testing.T, x api.Shape, m api.Masked, n uint64, text []byte) []byte {
