@@ -17,9 +17,12 @@ func Need(so bool, code api.Code) {
 
 // Must: what another call answers. It leaves by a panic, if that call's code isn't OK.
 func Must[T any](x T, e api.Code) T {
-	Need(e == api.OK, e)
+	Done(e)
 	return x
 }
+
+// Done: another call, that answers nothing but its code, came to be. It leaves by a panic, if the code isn't OK.
+func Done(e api.Code) { Need(e == api.OK, e) }
 
 // Told: the code that is in what was taken back; OK, if nothing was. A panic that isn't Need's goes on.
 func Told(taken any) api.Code {

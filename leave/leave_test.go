@@ -61,6 +61,15 @@ func TestMust(t *testing.T) {
 	}
 }
 
+// Done leaves by each code but OK.
+func TestDone(t *testing.T) {
+	for _, e := range append(codes(), api.OK) {
+		if got := taken(func() { leave.Done(e) }); got != e {
+			t.Errorf("Done(%v): %v", e, got)
+		}
+	}
+}
+
 // Told lets every panic go on that isn't Need's, as it was.
 func TestOthersGoOn(t *testing.T) {
 	for _, x := range []any{"a text", api.Arg, 7, errors.New("an error"), struct{ code api.Code }{api.Arg}} {
