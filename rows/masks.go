@@ -76,7 +76,7 @@ func TurnedBit(b []byte, bit int) []byte {
 	return out
 }
 
-// Sum is how bytes are summed, of which layer 14's sums with masks are put together here by hand.
+// Sum is how bytes are summed, of which layer 14's sums with masks, and layer 20's records, are put together here by hand.
 type Sum func(text []byte) []byte
 
 // Num: the sum of k as 32 bytes, and of all, one behind the other.

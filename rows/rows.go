@@ -1,4 +1,4 @@
-// Package rows holds what the tests of the layers have in common: rows of bytes, what tells whether they are those that they must be, and whether a call changed, kept or shared them, the primes, the seeds that may be of a set and those that may not, the secrets of keys with masks likewise, layer 14's sums put together by hand, digits read off letters, the pairs of sets, the sets with the numbers that their sums hang on, and the sets of few that may not be, or can't be made. No layer calls it.
+// Package rows holds what the tests of the layers have in common: rows of bytes, what tells whether they are those that they must be, and whether a call changed, kept or shared them, the primes, the seeds that may be of a set and those that may not, the secrets of keys with masks likewise, layer 14's sums and layer 20's records put together by hand, the choices by which a disk's writes are lost, digits read off letters, the pairs of sets, the sets with the numbers that their sums hang on, and the sets of few that may not be, or can't be made. No layer calls it.
 package rows
 
 // room is what lies behind a guarded row.

@@ -3,7 +3,6 @@ package slots_test
 import (
 	"bytes"
 	"crypto/sha256"
-	"encoding/binary"
 	"math"
 	"slices"
 	"testing"
@@ -17,29 +16,17 @@ import (
 // far are numbers that are no area's sectors, nor any disk's: far ones, and such as are alike to some that are by their last bits.
 var far = []int{-1, -2, -8, -64, -255, -256, 257, 511, 512, 1 << 16, 1<<16 + 1, math.MaxInt32, math.MinInt32, 1 << 32, 1<<32 + 1, 1<<32 + 8, 1 << 61, 1<<62 + 1, math.MaxInt/2 + 1, math.MaxInt - 16, math.MaxInt - 2, math.MaxInt - 1, math.MaxInt, math.MinInt + 2, math.MinInt + 1, math.MinInt}
 
-// head: by hand, what a record begins with: a number, and how many bytes.
-func head(number uint64, size uint32) []byte {
-	return binary.BigEndian.AppendUint32(binary.BigEndian.AppendUint64(nil, number), size)
-}
-
-// summed: bytes, and the first 16 bytes of their sum.
-func summed(parts ...[]byte) []byte {
-	b := slices.Concat(parts...)
+// sums is Go's own SHA-256, of which records are put together by hand.
+var sums = rows.Sum(func(b []byte) []byte {
 	sum := sha256.Sum256(b)
-	return append(b, sum[:16]...)
-}
+	return sum[:]
+})
 
-// filled: bytes, and bytes 0 behind them up to the end of an area of n sectors.
-func filled(n int, b []byte) []byte { return append(slices.Clone(b), make([]byte, 64*n-len(b))...) }
-
-// record: by hand, a record of a number and bytes, up to the end of an area of n sectors.
-func record(n int, number uint64, b []byte) []byte {
-	return filled(n, summed(head(number, uint32(len(b))), b))
-}
-
-// blank: an area of n sectors that is all 0; junk: one that is no record.
-func blank(n int) []byte { return make([]byte, 64*n) }
-func junk(n int) []byte  { return bytes.Repeat([]byte{1}, 64*n) }
+// record: by hand, a record of a number and bytes, up to the end of an area of n sectors, and the parts of such a one; blank and junk: areas that are none.
+var (
+	head, summed, filled, record = rows.Head, sums.Summed, rows.Filled, sums.Record
+	blank, junk                  = rows.Blank, rows.Junk
+)
 
 // text: so many bytes, that mark marks.
 func text(size int, mark byte) []byte { return rows.Mixed(size, mark) }

@@ -10,6 +10,7 @@ import (
 
 	"tearoff/api"
 	"tearoff/disk"
+	"tearoff/rows"
 )
 
 // byHand is slots put together by hand, in the chapter's words, on a disk of their own.
@@ -185,7 +186,7 @@ func TestShortScripts(t *testing.T) {
 	for i := range all {
 		which = append(which, byte(i))
 	}
-	every(length, which, func(choices []byte) {
+	rows.Every(length, which, func(choices []byte) {
 		var script []deed
 		for _, c := range choices {
 			script = append(script, all[c])

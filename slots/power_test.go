@@ -7,27 +7,8 @@ import (
 	"testing"
 
 	"tearoff/api"
+	"tearoff/rows"
 )
-
-// kinds are choices of each kind, by which a write is lost, there as a whole, or torn at the edges of a record's parts.
-func kinds() []byte {
-	out := []byte{0, 1}
-	for _, n := range []byte{0, 1, 7, 8, 11, 12, 16, 20, 28, 40, 63} {
-		out = append(out, 2+4*n, 3+4*n)
-	}
-	return out
-}
-
-// every calls what is to be done with each row of n choices of these.
-func every(n int, of []byte, do func(choices []byte)) {
-	if n == 0 {
-		do(nil)
-		return
-	}
-	for _, c := range of {
-		every(n-1, of, func(choices []byte) { do(append(slices.Clone(choices), c)) })
-	}
-}
 
 // saved is a number, and the bytes that were saved with it, or were to be.
 type saved struct {
@@ -88,7 +69,7 @@ func TestPowerAtEach(t *testing.T) {
 		for _, sizes := range sizesOf(n) {
 			for saves := range 4 {
 				for at := 1; at <= n+2; at++ {
-					every(min(at-1, n), kinds(), func(choices []byte) {
+					rows.Every(min(at-1, n), rows.Choices(), func(choices []byte) {
 						r, may, none := cutAt(t, n, saves, at, sizes, choices)
 						r.keeps(may, none)
 					})
@@ -105,7 +86,7 @@ func TestPowerAtEachOfMany(t *testing.T) {
 		for _, sizes := range sizesOf(n)[:2] {
 			for saves := range 3 {
 				for at := 1; at <= n+2; at++ {
-					every(min(at-1, n), of, func(choices []byte) {
+					rows.Every(min(at-1, n), of, func(choices []byte) {
 						r, may, none := cutAt(t, n, saves, at, sizes, choices)
 						r.keeps(may, none)
 					})
@@ -134,7 +115,7 @@ func TestPowerByAllChoices(t *testing.T) {
 // P20.4: by a flush that fails all is pending, and nothing counts: behind the power's end it is what was saved last, or that.
 func TestPowerBehindFailedFlush(t *testing.T) {
 	for saves := range 4 {
-		every(2, kinds(), func(choices []byte) {
+		rows.Every(2, rows.Choices(), func(choices []byte) {
 			r, _ := began(t, 2, saves)
 			r.Plan(api.Plan{Fail: []int{3}})
 			var may []saved
@@ -153,7 +134,7 @@ func TestPowerBehindFailedFlush(t *testing.T) {
 func TestPowerBehindSeveralCuts(t *testing.T) {
 	few := []byte{0, 1, 2 + 4*12, 3 + 4*12, 2 + 4*40, 3 + 4*40}
 	for saves := range 3 {
-		every(4, few, func(choices []byte) {
+		rows.Every(4, few, func(choices []byte) {
 			r, _ := began(t, 2, saves)
 			r.Plan(api.Plan{Fail: []int{3}, Stop: 6})
 			var may []saved

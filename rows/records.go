@@ -1,0 +1,64 @@
+package rows
+
+import (
+	"bytes"
+	"slices"
+
+	"tearoff/api"
+)
+
+// Number: v as n bytes, the greatest first.
+func Number(v uint64, n int) []byte {
+	out := make([]byte, n)
+	for i := range out {
+		out[i] = byte(v >> (8 * (n - 1 - i)))
+	}
+	return out
+}
+
+// Head: what a record of layer 20 begins with: a number, and how many bytes there are.
+func Head(number uint64, size uint32) []byte {
+	return slices.Concat(Number(number, 8), Number(uint64(size), 4))
+}
+
+// Summed: bytes, and the first 16 bytes of their sum.
+func (s Sum) Summed(parts ...[]byte) []byte {
+	b := slices.Concat(parts...)
+	return append(b, s(b)[:16]...)
+}
+
+// Record: a record of layer 20 by hand, of a number and bytes, up to the end of an area of n sectors.
+func (s Sum) Record(n int, number uint64, b []byte) []byte {
+	return Filled(n, s.Summed(Head(number, uint32(len(b))), b))
+}
+
+// Filled: bytes, and bytes 0 behind them up to the end of an area of n sectors.
+func Filled(n int, b []byte) []byte {
+	out := Blank(n)
+	copy(out, b)
+	return out
+}
+
+// Blank: an area of n sectors that is all 0; Junk: one that is no record.
+func Blank(n int) []byte { return make([]byte, n*api.SectorLen) }
+func Junk(n int) []byte  { return bytes.Repeat([]byte{1}, n*api.SectorLen) }
+
+// Choices are some of each kind, by which a write is lost, there as a whole, or torn at the edges of a record's parts.
+func Choices() []byte {
+	out := []byte{0, 1}
+	for _, n := range []byte{0, 1, 7, 8, 11, 12, 16, 20, 28, 40, 63} {
+		out = append(out, 2+4*n, 3+4*n)
+	}
+	return out
+}
+
+// Every calls what is to be done with each row of n bytes of these.
+func Every(n int, of []byte, do func(row []byte)) {
+	if n == 0 {
+		do(nil)
+		return
+	}
+	for _, c := range of {
+		Every(n-1, of, func(row []byte) { do(append(slices.Clone(row), c)) })
+	}
+}
