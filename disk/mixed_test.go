@@ -7,6 +7,7 @@ import (
 	"testing"
 
 	"tearoff/api"
+	"tearoff/rows"
 )
 
 // pend is a write that is pending.
@@ -206,13 +207,7 @@ func mixedPlan(m *rand.Rand) api.Plan {
 }
 
 // mixedRow: so many bytes.
-func mixedRow(m *rand.Rand, n int) []byte {
-	out := make([]byte, n)
-	for i := range out {
-		out[i] = byte(m.Uint32())
-	}
-	return out
-}
+func mixedRow(m *rand.Rand, n int) []byte { return rows.MixedRow(m, n) }
 
 // mixedDeed: one of a disk of so many sectors.
 func mixedDeed(m *rand.Rand, sectors int) deed {

@@ -4,7 +4,6 @@ import (
 	"bytes"
 	"encoding/binary"
 	"math"
-	"math/bits"
 	"slices"
 	"strconv"
 	"testing"
@@ -14,29 +13,11 @@ import (
 	"tearoff/rows"
 )
 
-// sumCount is how many kinds and sizes of sums there are. A test's sort of sums is one of them, in the order of the codes.
-const sumCount = 4
+// sumCount is how many sorts of sums there are.
+const sumCount = rows.SumCount
 
-// pair: the pair of a sort of sums, of a width and a height. It panics where there is none.
-func pair(sort, w, h int) api.Pair {
-	p := api.Pair{Ots: uint32(4*sort + bits.Len(uint(w))), Tree: uint32(4 + 5*sort + h/5)}
-	if h < 5 {
-		p.Tree = 0xf0000000 + uint32(4*sort+h)
-	}
-	if o, t := rows.SetsOf(p); o.W != w || t.H != h || !slices.Contains(rows.Pairs(), p) {
-		panic("no such pair")
-	}
-	return p
-}
-
-// of: levels of a sort of sums, of these heights, the top one's first. Their widths are unlike, but small, so that keys are made soon.
-func of(sort int, heights ...int) []api.Pair {
-	var out []api.Pair
-	for i, h := range heights {
-		out = append(out, pair(sort, []int{2, 4, 1}[i%3], h))
-	}
-	return out
-}
+// pair and of: a pair, and levels, of a sort of sums; tall: levels that are as high as may be; over and noLevels: such as may not be.
+var pair, of, tall, over, noLevels = rows.Pair, rows.Levels, rows.TallLevels, rows.OverLevels, rows.NoLevels
 
 // height, leaves: of a pair's tree.
 func height(p api.Pair) int {
@@ -90,56 +71,6 @@ func few() [][]api.Pair {
 		of(0, 1, 1, 1), of(1, 2, 1, 1), of(2, 1, 1, 1), of(3, 1, 2, 1),
 		{pair(1, 4, 1), pair(1, 4, 1), pair(1, 4, 1)},
 	}
-}
-
-// tall: levels whose heights are 60 together, or as near to it as so many can be.
-func tall(sort int) [][]api.Pair {
-	return [][]api.Pair{
-		of(sort, 25), of(sort, 25, 25), of(sort, 25, 25, 10), of(sort, 10, 25, 25), of(sort, 20, 20, 20),
-		of(sort, 15, 15, 15, 15), of(sort, 25, 25, 5, 5), of(sort, 25, 25, 4, 4, 2), of(sort, 10, 10, 10, 10, 10, 10),
-		of(sort, 25, 10, 5, 5, 5, 5, 5), of(sort, 15, 15, 15, 5, 4, 3, 2, 1), of(sort, 1, 25, 2, 20, 3, 4, 4, 1), of(sort, 5, 5, 5, 5, 10, 10, 10, 10),
-	}
-}
-
-// over: levels whose heights are more than 60 together: 61 of the first ones.
-func over(sort int) [][]api.Pair {
-	return [][]api.Pair{
-		of(sort, 25, 25, 10, 1), of(sort, 1, 25, 25, 10), of(sort, 20, 20, 20, 1), of(sort, 10, 10, 10, 10, 10, 10, 1), of(sort, 15, 15, 15, 15, 1),
-		of(sort, 25, 10, 5, 5, 5, 5, 5, 1), of(sort, 15, 15, 15, 5, 4, 3, 3, 1), of(sort, 1, 25, 2, 20, 4, 4, 4, 1), of(sort, 25, 25, 4, 4, 3),
-		of(sort, 25, 25, 10, 2), of(sort, 25, 25, 15), of(sort, 25, 20, 20), of(sort, 20, 20, 20, 4), of(sort, 25, 25, 25), of(sort, 25, 25, 25, 25), of(sort, 20, 20, 20, 20, 20, 20, 20, 20),
-		of(sort, 25, 25, 25, 25, 25, 25, 25, 25), of(sort, 10, 10, 10, 10, 10, 10, 10, 10), of(sort, 15, 15, 15, 15, 15, 15, 15, 25), of(sort, 25, 25, 5, 1, 1, 1, 1, 2),
-	}
-}
-
-// noLevels: such as may not be: none, too many, too high, of unlike sums, and with a pair that may not be.
-func noLevels() [][]api.Pair {
-	out := [][]api.Pair{nil, {}}
-	for sort := range sumCount {
-		one := pair(sort, 4, 1)
-		for _, n := range []int{9, 10, 16, 17, 64, 256, 257, 258, 264} {
-			out = append(out, slices.Repeat([]api.Pair{one}, n))
-		}
-		out = append(out, over(sort)...)
-		for n := 2; n <= 8; n++ {
-			for at := range n {
-				for other := range sumCount {
-					if other != sort {
-						l := slices.Repeat([]api.Pair{one}, n)
-						l[at] = pair(other, 4, 1)
-						out = append(out, l)
-					}
-				}
-			}
-		}
-	}
-	for _, p := range rows.NoPairs() {
-		out = append(out, []api.Pair{p}, []api.Pair{p, p})
-	}
-	for i, p := range rows.NoPairs() {
-		l := slices.Repeat([]api.Pair{pair(i%sumCount, 2, 1)}, 1+i%7)
-		out = append(out, slices.Insert(l, i%len(l), p), slices.Concat(l, []api.Pair{p}), slices.Concat([]api.Pair{p}, l))
-	}
-	return out
 }
 
 // P13.1: the chapter's example: two levels of heights 1 and 2: eight; the index 5 has the places 1, 1.

@@ -28,17 +28,8 @@ var sums = rows.Sum(func(b []byte) []byte {
 	return sum[:]
 })
 
-// record: by hand, a record of a number and bytes, up to the end of an area of n sectors; blank and junk: areas that are none.
-var record, blank, junk = sums.Record, rows.Blank, rows.Junk
-
-// bytesOf: by hand, a counter as bytes, whether it may be or not.
-func bytesOf(x api.Counted, head []byte) []byte {
-	mark := []byte{0}
-	if x.Retired {
-		mark = []byte{1}
-	}
-	return slices.Concat(rows.Number(x.Total, 8), rows.Number(x.Batch, 8), rows.Number(x.Reserved, 8), mark, head)
-}
+// record: by hand, a record of a number and bytes, up to the end of an area of n sectors; blank and junk: areas that are none; bytesOf: by hand, a counter as bytes.
+var record, blank, junk, bytesOf = sums.Record, rows.Blank, rows.Junk, rows.Counter
 
 // mayBe: whether a counter may be, in the chapter's words.
 func mayBe(x api.Counted, head []byte) bool {
@@ -126,16 +117,6 @@ type rig struct {
 	first, n int
 }
 
-// newDisk: a disk of so many sectors.
-func newDisk(t *testing.T, sectors int) *disk.Disk {
-	t.Helper()
-	d, e := disk.New(sectors)
-	if e != api.OK {
-		t.Fatalf("no disk of %v sectors: %v", sectors, e)
-	}
-	return d
-}
-
 // on: slots on a disk that know nothing, and no counter yet.
 func on(t *testing.T, d *disk.Disk, first, n int) rig {
 	t.Helper()
@@ -149,7 +130,7 @@ func on(t *testing.T, d *disk.Disk, first, n int) rig {
 // bare: slots of n sectors on a disk of their own, with a sector ahead of and one behind them, and no counter yet.
 func bare(t *testing.T, n int) rig {
 	t.Helper()
-	return on(t, newDisk(t, 2*n+2), 1, n)
+	return on(t, rows.Disk(2*n+2), 1, n)
 }
 
 // made: a counter made in slots of n sectors, the disk's count at 0 behind it.

@@ -154,26 +154,9 @@ func TestPowerBehindFailedFlush(t *testing.T) {
 // mixed: numbers that are mixed the same way each time.
 func mixed(start uint64) *rand.Rand { return rand.New(rand.NewPCG(start, 21)) }
 
-// mixedRow: so many bytes.
-func mixedRow(m *rand.Rand, n int) []byte {
-	out := make([]byte, n)
-	for i := range out {
-		out[i] = byte(m.Uint32())
-	}
-	return out
-}
-
-// mixedPlan: a plan by which something may happen within some saves.
-func mixedPlan(m *rand.Rand) api.Plan {
-	var p api.Plan
-	for range m.IntN(3) {
-		p.Fail = append(p.Fail, m.IntN(20)+1)
-	}
-	if m.IntN(2) == 0 {
-		p.Stop = m.IntN(20) + 1
-	}
-	return p
-}
+// mixedRow: so many bytes; mixedPlan: a plan by which something may happen within some saves.
+func mixedRow(m *rand.Rand, n int) []byte { return rows.MixedRow(m, n) }
+func mixedPlan(m *rand.Rand) api.Plan     { return rows.MixedPlan(m) }
 
 // mixedGiven: a counter of mixed numbers, in areas of 1 to 4 sectors.
 func mixedGiven(t *testing.T, m *rand.Rand) *given {
@@ -253,7 +236,7 @@ func TestWhateverHappens(t *testing.T) {
 func TestCountersOnOneDisk(t *testing.T) {
 	for start := range uint64(60) {
 		m := mixed(5000 + start)
-		d := newDisk(t, 16)
+		d := rows.Disk(16)
 		var all []*given
 		var heads [][]byte
 		for i, first := range []int{1, 3, 9} {
@@ -280,7 +263,7 @@ func TestCountersOnOneDisk(t *testing.T) {
 
 // P21.4: of two counters in slots of one disk the one isn't touched by what is done to the other: made, taken of, failing, retired, written over by hand.
 func TestCountersApart(t *testing.T) {
-	d := newDisk(t, 8)
+	d := rows.Disk(8)
 	a, b := on(t, d, 0, 2), on(t, d, 4, 2)
 	a.makes([]byte("a"), 9, 4)
 	b.noOpen(api.NotFound)

@@ -5,6 +5,7 @@ import (
 	"slices"
 
 	"tearoff/api"
+	"tearoff/disk"
 )
 
 // Number: v as n bytes, the greatest first.
@@ -42,6 +43,24 @@ func Filled(n int, b []byte) []byte {
 // Blank: an area of n sectors that is all 0; Junk: one that is no record.
 func Blank(n int) []byte { return make([]byte, n*api.SectorLen) }
 func Junk(n int) []byte  { return bytes.Repeat([]byte{1}, n*api.SectorLen) }
+
+// Counter: by hand, a counter of layer 21 as bytes, whether it may be or not.
+func Counter(x api.Counted, head []byte) []byte {
+	mark := []byte{0}
+	if x.Retired {
+		mark = []byte{1}
+	}
+	return slices.Concat(Number(x.Total, 8), Number(x.Batch, 8), Number(x.Reserved, 8), mark, head)
+}
+
+// Disk: a disk of so many sectors. It panics where there is none.
+func Disk(sectors int) *disk.Disk {
+	d, e := disk.New(sectors)
+	if e != api.OK {
+		panic("no such disk")
+	}
+	return d
+}
 
 // Choices are some of each kind, by which a write is lost, there as a whole, or torn at the edges of a record's parts.
 func Choices() []byte {

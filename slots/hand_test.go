@@ -42,16 +42,6 @@ type rig struct {
 	first, n int
 }
 
-// newDisk: a disk of so many sectors.
-func newDisk(t *testing.T, sectors int) *disk.Disk {
-	t.Helper()
-	d, e := disk.New(sectors)
-	if e != api.OK {
-		t.Fatalf("no disk of %v sectors: %v", sectors, e)
-	}
-	return d
-}
-
 // on: slots on a disk.
 func on(t *testing.T, d *disk.Disk, first, n int) rig {
 	t.Helper()
@@ -65,7 +55,7 @@ func on(t *testing.T, d *disk.Disk, first, n int) rig {
 // made: slots of n sectors on a disk of their own, with sectors ahead of and behind them.
 func made(t *testing.T, n int) rig {
 	t.Helper()
-	return on(t, newDisk(t, 2*n+2), 1, n)
+	return on(t, rows.Disk(2*n+2), 1, n)
 }
 
 // anew: other slots at the same place, that know nothing.

@@ -208,7 +208,7 @@ func TestGreatLength(t *testing.T) {
 func TestAcross(t *testing.T) {
 	for n := 1; n <= 4; n++ {
 		for size := room(n) + 1; size <= room(2*n); size++ {
-			r := on(t, newDisk(t, 4*n), 0, n)
+			r := on(t, rows.Disk(4*n), 0, n)
 			is := record(2*n, 8, text(size, 7))
 			want := api.Corrupt
 			if bytes.Equal(is[64*n:], blank(n)) {
@@ -228,7 +228,7 @@ func TestAcross(t *testing.T) {
 
 // P20.2: what is a record in areas of fewer sectors is one in areas of more, with bytes 0 behind it, and not elsewhere.
 func TestOtherSectors(t *testing.T) {
-	d := newDisk(t, 8)
+	d := rows.Disk(8)
 	few, more := on(t, d, 0, 1), on(t, d, 0, 2)
 	few.saves([]byte("a"), api.OK)
 	more.loads(1, []byte("a"))

@@ -157,7 +157,7 @@ func deeds() []deed {
 // twins: slots, and such as are put together by hand, each on a disk of its own.
 func twins(t *testing.T, sectors, first, n int) (rig, *byHand) {
 	t.Helper()
-	return on(t, newDisk(t, sectors), first, n), newByHand(newDisk(t, sectors), first, n)
+	return on(t, rows.Disk(sectors), first, n), newByHand(rows.Disk(sectors), first, n)
 }
 
 // run runs a script of deeds, and tells which one it was, where it tells anything else than by hand.

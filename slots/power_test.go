@@ -156,26 +156,9 @@ func TestPowerBehindSeveralCuts(t *testing.T) {
 // mixed: numbers that are mixed the same way each time.
 func mixed(start uint64) *rand.Rand { return rand.New(rand.NewPCG(start, 20)) }
 
-// mixedRow: so many bytes.
-func mixedRow(m *rand.Rand, n int) []byte {
-	out := make([]byte, n)
-	for i := range out {
-		out[i] = byte(m.Uint32())
-	}
-	return out
-}
-
-// mixedPlan: a plan by which something happens often within some saves.
-func mixedPlan(m *rand.Rand) api.Plan {
-	var p api.Plan
-	for range m.IntN(3) {
-		p.Fail = append(p.Fail, m.IntN(20)+1)
-	}
-	if m.IntN(2) == 0 {
-		p.Stop = m.IntN(20) + 1
-	}
-	return p
-}
+// mixedRow: so many bytes; mixedPlan: a plan by which something may happen within some saves.
+func mixedRow(m *rand.Rand, n int) []byte { return rows.MixedRow(m, n) }
+func mixedPlan(m *rand.Rand) api.Plan     { return rows.MixedPlan(m) }
 
 // script is slots that are saved in, and lose the power, and what may be loaded of them.
 type script struct {

@@ -8,6 +8,7 @@ import (
 	"testing"
 
 	"tearoff/api"
+	"tearoff/rows"
 	"tearoff/slots"
 )
 
@@ -63,7 +64,7 @@ func TestRoom(t *testing.T) {
 func TestNew(t *testing.T) {
 	for _, sectors := range []int{1, 2, 3, 4, 15, 16, 17, 18, 255, 256} {
 		for _, down := range []bool{false, true} {
-			d := newDisk(t, sectors)
+			d := rows.Disk(sectors)
 			if down {
 				d.Stop()
 			}
@@ -94,7 +95,7 @@ func noSlots(t *testing.T, r rig, first, n int) {
 // P20.1: New of numbers that are far off, the least and the greatest one, alone and both: Arg, the disk up or down.
 func TestNewFar(t *testing.T) {
 	for _, sectors := range []int{2, 16, 17, 256} {
-		r := on(t, newDisk(t, sectors), 0, 1)
+		r := on(t, rows.Disk(sectors), 0, 1)
 		for range 2 {
 			for _, v := range append([]int{256}, far...) {
 				for n := 1; n <= 8; n++ {
@@ -137,7 +138,7 @@ func TestEnds(t *testing.T) {
 	for n := 1; n <= 8; n++ {
 		for _, sectors := range []int{2 * n, 2*n + 1, 64, 256} {
 			for _, first := range []int{0, sectors - 2*n} {
-				r := on(t, newDisk(t, sectors), first, n)
+				r := on(t, rows.Disk(sectors), first, n)
 				one, two := text(room(n), 1), text(room(n), 2)
 				r.saves(one, api.OK)
 				r.saves(two, api.OK)
@@ -190,7 +191,7 @@ func TestNow(t *testing.T) {
 func TestTwoSlots(t *testing.T) {
 	for _, n := range []int{1, 3} {
 		for _, m := range []int{1, 2} {
-			d := newDisk(t, 2*n+2*m+2)
+			d := rows.Disk(2*n + 2*m + 2)
 			ahead, behind := text(64, 1), text(64, 2)
 			d.Write(0, ahead)
 			d.Write(2*n+2*m+1, behind)
