@@ -19,28 +19,10 @@ const sumCount = rows.SumCount
 // pair and of: a pair, and levels, of a sort of sums; tall: levels that are as high as may be; over and noLevels: such as may not be.
 var pair, of, tall, over, noLevels = rows.Pair, rows.Levels, rows.TallLevels, rows.OverLevels, rows.NoLevels
 
-// height, leaves: of a pair's tree.
-func height(p api.Pair) int {
-	_, t := rows.SetsOf(p)
-	return t.H
-}
+// height, leaves: of a pair's tree; size: how many bytes the sums of levels have; high: how high all trees are together.
+var height, size, high = rows.HeightOf, rows.SizeOf, rows.High
 
 func leaves(p api.Pair) uint64 { return 1 << height(p) }
-
-// size: how many bytes the sums of levels have.
-func size(l []api.Pair) int {
-	o, _ := rows.SetsOf(l[0])
-	return o.N
-}
-
-// high: how high all trees are together.
-func high(l []api.Pair) int {
-	sum := 0
-	for _, p := range l {
-		sum += height(p)
-	}
-	return sum
-}
 
 // name: what a test of levels is called.
 func name(l []api.Pair) string {

@@ -115,16 +115,7 @@ func (r rig) alike(h *byHand) {
 	if c, m := h.s.Now(); n != m || !bytes.Equal(b, c) {
 		r.Errorf("P21: the slots know %v, %x, not %v, %x", n, b, m, c)
 	}
-	r.counts(h.d.Count())
-	if got, want := r.Sure(), h.d.Sure(); !slices.EqualFunc(got, want, bytes.Equal) {
-		r.Errorf("P21: Sure: %x, not %x", got, want)
-	}
-	for i := range r.Sure() {
-		want, code := h.d.Read(i)
-		if b, e := r.Read(i); e != code || !bytes.Equal(b, want) {
-			r.Errorf("P21: the sector %v: %x, %v, not %x, %v", i, b, e, want, code)
-		}
-	}
+	rows.SameDisk(r, r.Disk, h.d, "P21")
 }
 
 // deed is something that is done to a counter, and to one that is put together by hand.

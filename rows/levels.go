@@ -31,6 +31,25 @@ func Levels(sort int, heights ...int) []api.Pair {
 	return out
 }
 
+// SizeOf: how many bytes the sums of levels have; HeightOf: how high a pair's tree is; High: how high all trees of levels are together.
+func SizeOf(l []api.Pair) int {
+	o, _ := SetsOf(l[0])
+	return o.N
+}
+
+func HeightOf(p api.Pair) int {
+	_, t := SetsOf(p)
+	return t.H
+}
+
+func High(l []api.Pair) int {
+	sum := 0
+	for _, p := range l {
+		sum += HeightOf(p)
+	}
+	return sum
+}
+
 // TallLevels: levels whose heights are 60 together, or as near to it as so many can be.
 func TallLevels(sort int) [][]api.Pair {
 	return levelsOf(sort, [][]int{

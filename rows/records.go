@@ -5,7 +5,6 @@ import (
 	"slices"
 
 	"tearoff/api"
-	"tearoff/disk"
 )
 
 // Number: v as n bytes, the greatest first.
@@ -51,33 +50,4 @@ func Counter(x api.Counted, head []byte) []byte {
 		mark = []byte{1}
 	}
 	return slices.Concat(Number(x.Total, 8), Number(x.Batch, 8), Number(x.Reserved, 8), mark, head)
-}
-
-// Disk: a disk of so many sectors. It panics where there is none.
-func Disk(sectors int) *disk.Disk {
-	d, e := disk.New(sectors)
-	if e != api.OK {
-		panic("no such disk")
-	}
-	return d
-}
-
-// Choices are some of each kind, by which a write is lost, there as a whole, or torn at the edges of a record's parts.
-func Choices() []byte {
-	out := []byte{0, 1}
-	for _, n := range []byte{0, 1, 7, 8, 11, 12, 16, 20, 28, 40, 63} {
-		out = append(out, 2+4*n, 3+4*n)
-	}
-	return out
-}
-
-// Every calls what is to be done with each row of n bytes of these.
-func Every(n int, of []byte, do func(row []byte)) {
-	if n == 0 {
-		do(nil)
-		return
-	}
-	for _, c := range of {
-		Every(n-1, of, func(row []byte) { do(append(slices.Clone(row), c)) })
-	}
 }

@@ -5,7 +5,6 @@ import (
 	"encoding/binary"
 	"math"
 	"math/rand/v2"
-	"slices"
 	"testing"
 
 	"tearoff/api"
@@ -88,16 +87,7 @@ func (h *byHand) load() ([]byte, uint64, api.Code) {
 func (r rig) alike(h *byHand) {
 	r.Helper()
 	r.knows(h.number, h.b)
-	r.counts(h.d.Count())
-	if got, want := r.Sure(), h.d.Sure(); !slices.EqualFunc(got, want, bytes.Equal) {
-		r.Errorf("P20.3: Sure: %x, not %x", got, want)
-	}
-	for i := range r.Sure() {
-		want, code := h.d.Read(i)
-		if b, e := r.Read(i); e != code || !bytes.Equal(b, want) {
-			r.Errorf("P20.3: the sector %v: %x, %v, not %x, %v", i, b, e, want, code)
-		}
-	}
+	rows.SameDisk(r, r.Disk, h.d, "P20.3")
 }
 
 // deed is something that is done to slots, and to such as are put together by hand.
