@@ -31,7 +31,7 @@ func TestCreate(t *testing.T) {
 	}
 }
 
-// P22.2: what Create saved is what hand-made bytes are: all of a sector's record written out.
+// P22.2: what Create saved, written out, byte by byte, up to the record's sum.
 func TestCreateWrittenOut(t *testing.T) {
 	k := made{"b", []api.Pair{{Ots: 7, Tree: 0xf0000005}, {Ots: 7, Tree: 0xf0000005}}, api.Seed{Name: []byte("0123456789abcdef"), Secret: slices.Repeat([]byte{7}, 24)}, 2}
 	r := laid(t, free())
