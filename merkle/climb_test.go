@@ -30,8 +30,8 @@ func refused(t *testing.T, s api.Tree, name []byte, q uint32, key []byte, way []
 }
 
 // climbed: where a key and a way lead, put together by hand: each bit of the leaf's number tells on which side the way's sum stands.
-func (part means) climbed(t api.Tree, name []byte, q uint32, key []byte, way [][]byte) []byte {
-	place := leaves(t) + int(q)
+func climbed(part rows.Parter, t api.Tree, name []byte, q uint32, key []byte, way [][]byte) []byte {
+	place := rows.Leaves(t) + int(q)
 	sum := part(t, name, place, 0x8282, key)
 	for h := range t.H {
 		above := place >> (h + 1)
@@ -48,15 +48,15 @@ func (part means) climbed(t api.Tree, name []byte, q uint32, key []byte, way [][
 func expectClimb(t *testing.T, s api.Tree, name []byte, q uint32, key []byte, way [][]byte, what ...any) {
 	t.Helper()
 	got := climb(t, s, name, q, key, way, what...)
-	for _, part := range []means{byLayer, byOthers} {
-		expect(t, got, part.climbed(s, name, q, key, way), "P11.2: Climb", what, s.Code, q)
+	for _, part := range []rows.Parter{byLayer, byOthers} {
+		expect(t, got, climbed(part, s, name, q, key, way), "P11.2: Climb", what, s.Code, q)
 	}
 }
 
 // P11.2: of height 1 a way has one sum, which stands to the right of the leaf 0, to the left of the leaf 1.
 func TestClimbExample(t *testing.T) {
 	name, key := rows.Mixed(16, 31), []byte("a key")
-	for _, s := range trees(t, 1, 1) {
+	for _, s := range rows.TreesOf(1, 1) {
 		beside := rows.Mixed(s.N, 32)
 		two, three := byLayer(s, name, 2, 0x8282, key), byLayer(s, name, 3, 0x8282, key)
 		expect(t, climb(t, s, name, 0, key, [][]byte{beside}), byLayer(s, name, 1, 0x8383, two, beside), "P11.2: Climb, the left one", s.Code)
@@ -68,7 +68,7 @@ func TestClimbExample(t *testing.T) {
 func TestClimb(t *testing.T) {
 	name, long := rows.Mixed(16, 33), rows.Mixed(api.MaxText+1, 34)
 	for _, s := range rows.Trees() {
-		way := some(s.H, s.N, 35)
+		way := rows.Some(s.H, s.N, 35)
 		noughts, ones := make([][]byte, s.H), make([][]byte, s.H)
 		for h := range way {
 			noughts[h], ones[h] = make([]byte, s.N), rows.Guarded(bytes.Repeat([]byte{255}, s.N))
@@ -79,10 +79,10 @@ func TestClimb(t *testing.T) {
 			expectClimb(t, s, rows.Guarded(name), uint32(q), []byte{}, ones, "ones, spare room behind")
 		}
 		for _, n := range []int{1, 15, 16, 17, 23, 25, 31, 33, 63, 64, 65, 135, 136, 137, api.MaxText, api.MaxText + 1} {
-			expectClimb(t, s, name, uint32(leaves(s)-1), long[:n], way, "bytes of the key", n)
+			expectClimb(t, s, name, uint32(rows.Leaves(s)-1), long[:n], way, "bytes of the key", n)
 		}
 		expectClimb(t, s, make([]byte, 16), 0, nil, noughts, "noughts, a name of noughts")
-		expectClimb(t, s, bytes.Repeat([]byte{255}, 16), uint32(leaves(s)-1), nil, ones, "ones, a name of ones")
+		expectClimb(t, s, bytes.Repeat([]byte{255}, 16), uint32(rows.Leaves(s)-1), nil, ones, "ones, a name of ones")
 		expectClimb(t, s, name, 0, name, slices.Repeat(way[:1], s.H), "one row for all sums")
 	}
 }
@@ -91,15 +91,15 @@ func TestClimb(t *testing.T) {
 func TestClimbLeaves(t *testing.T) {
 	name := rows.Mixed(16, 37)
 	for _, s := range rows.Trees() {
-		key, way := rows.Mixed(s.N, 38), some(s.H, s.N, 39)
+		key, way := rows.Mixed(s.N, 38), rows.Some(s.H, s.N, 39)
 		qs := edges(s)
 		if s.H <= 10 {
-			qs = all(leaves(s))
+			qs = all(rows.Leaves(s))
 		}
 		seen := map[string]int{}
 		for _, q := range qs {
 			got := climb(t, s, name, uint32(q), key, way)
-			expect(t, got, byOthers.climbed(s, name, uint32(q), key, way), "P11.2: Climb", s.Code, q)
+			expect(t, got, climbed(byOthers, s, name, uint32(q), key, way), "P11.2: Climb", s.Code, q)
 			if was, ok := seen[string(got)]; ok {
 				t.Errorf("P11.2: Climb, tree %#x: the leaf %v leads where %v does", s.Code, q, was)
 			}
@@ -112,11 +112,11 @@ func TestClimbLeaves(t *testing.T) {
 func TestClimbNoLeaf(t *testing.T) {
 	name := rows.Mixed(16, 40)
 	for _, s := range rows.Trees() {
-		key, way := rows.Mixed(s.N, 41), some(s.H, s.N, 42)
-		for _, q := range beyond(uint32(leaves(s))) {
+		key, way := rows.Mixed(s.N, 41), rows.Some(s.H, s.N, 42)
+		for _, q := range beyond(uint32(rows.Leaves(s))) {
 			refused(t, s, name, q, key, way, "beyond")
 		}
-		expectClimb(t, s, name, uint32(leaves(s)-1), key, way, "the last leaf")
+		expectClimb(t, s, name, uint32(rows.Leaves(s)-1), key, way, "the last leaf")
 	}
 }
 
@@ -129,8 +129,8 @@ func TestClimbNoTrees(t *testing.T) {
 				if n < 0 || n > 1000 || h < 0 || h > 1000 {
 					continue
 				}
-				refused(t, s, name, 0, rows.Mixed(n, 44), some(h, n, 45), "no set, bytes of a sum", n)
-				refused(t, s, name, 1, nil, some(h, n, 45), "no set, bytes of a sum", n)
+				refused(t, s, name, 0, rows.Mixed(n, 44), rows.Some(h, n, 45), "no set, bytes of a sum", n)
+				refused(t, s, name, 1, nil, rows.Some(h, n, 45), "no set, bytes of a sum", n)
 			}
 		}
 		refused(t, s, name, 0, nil, nil, "no set, no way")
@@ -141,7 +141,7 @@ func TestClimbNoTrees(t *testing.T) {
 // P11.2: nothing but 16 bytes is a name: Arg.
 func TestClimbNames(t *testing.T) {
 	for _, s := range rows.Trees() {
-		key, way := rows.Mixed(s.N, 46), some(s.H, s.N, 47)
+		key, way := rows.Mixed(s.N, 46), rows.Some(s.H, s.N, 47)
 		for _, n := range []int{0, 1, 8, 14, 15, 17, 18, 24, 31, 32, 33, 256, 256 + 16, 1<<16 + 16} {
 			refused(t, s, rows.Mixed(n, 48), 0, key, way, "bytes of the name", n)
 			refused(t, s, append(make([]byte, 0, n+16), rows.Mixed(n, 48)...), 0, key, way, "bytes of the name, spare room", n)
@@ -155,12 +155,12 @@ func TestClimbNames(t *testing.T) {
 func TestClimbWayCounts(t *testing.T) {
 	name := rows.Mixed(16, 49)
 	for _, s := range rows.Trees() {
-		key, sums := rows.Mixed(s.N, 50), some(80, s.N, 51)
+		key, sums := rows.Mixed(s.N, 50), rows.Some(80, s.N, 51)
 		for n := range sums {
 			if n == s.H {
 				continue
 			}
-			for _, q := range []uint32{0, 1, uint32(leaves(s) - 1)} {
+			for _, q := range []uint32{0, 1, uint32(rows.Leaves(s) - 1)} {
 				refused(t, s, name, q, key, sums[:n], "spare room behind")
 				refused(t, s, name, q, key, slices.Clip(sums[:n]), "a way")
 			}
@@ -177,18 +177,18 @@ func TestClimbWayCounts(t *testing.T) {
 func TestClimbWaySums(t *testing.T) {
 	name := rows.Mixed(16, 52)
 	for _, s := range rows.Trees() {
-		key, way := rows.Mixed(s.N, 53), some(s.H, s.N, 54)
+		key, way := rows.Mixed(s.N, 53), rows.Some(s.H, s.N, 54)
 		for _, n := range []int{0, 1, 16, 23, 24, 25, 31, 32, 33, s.N - 1, s.N + 1, 2 * s.N, 64, 256 + s.N, 1<<16 + s.N} {
 			if n == s.N {
 				continue
 			}
 			for h := range way {
-				for _, q := range []uint32{0, uint32(leaves(s) - 1)} {
+				for _, q := range []uint32{0, uint32(rows.Leaves(s) - 1)} {
 					refused(t, s, name, q, key, with(way, h, rows.Mixed(n, 55)), "one sum, bytes", h, n)
 					refused(t, s, name, q, key, with(way, h, append(make([]byte, 0, n+s.N), rows.Mixed(n, 55)...)), "one sum, bytes, spare room", h, n)
 				}
 			}
-			refused(t, s, name, 0, key, some(s.H, n, 56), "all sums, bytes", n)
+			refused(t, s, name, 0, key, rows.Some(s.H, n, 56), "all sums, bytes", n)
 		}
 		for h := range s.H - 1 {
 			bad := with(with(way, h, way[h][:s.N-1]), h+1, append(bytes.Clone(way[h+1]), 0))
@@ -201,11 +201,11 @@ func TestClimbWaySums(t *testing.T) {
 // P11.2: where all that is handed in is wrong, or two of these, the answer is Arg, too.
 func TestClimbAllWrong(t *testing.T) {
 	for _, s := range rows.Trees() {
-		name, way := rows.Mixed(16, 57), some(s.H, s.N, 58)
+		name, way := rows.Mixed(16, 57), rows.Some(s.H, s.N, 58)
 		refused(t, s, name[:15], math.MaxUint32, nil, way[1:], "all wrong")
 		refused(t, s, name[:15], 0, nil, way[1:], "the name and the way")
-		refused(t, s, name, uint32(leaves(s)), nil, append(way, nil), "the leaf and the way")
-		refused(t, s, nil, uint32(leaves(s)), nil, way, "the name and the leaf")
+		refused(t, s, name, uint32(rows.Leaves(s)), nil, append(way, nil), "the leaf and the way")
+		refused(t, s, nil, uint32(rows.Leaves(s)), nil, way, "the name and the leaf")
 		refused(t, s, nil, 0, nil, nil, "nothing")
 	}
 }
@@ -214,7 +214,7 @@ func TestClimbAllWrong(t *testing.T) {
 func elsewhere(t *testing.T, s api.Tree, root, name []byte, q int, key []byte, way [][]byte, what ...any) {
 	t.Helper()
 	got := climb(t, s, name, uint32(q), key, way, what...)
-	expect(t, got, byOthers.climbed(s, name, uint32(q), key, way), "P11.2: Climb", what, s.Code, q)
+	expect(t, got, climbed(byOthers, s, name, uint32(q), key, way), "P11.2: Climb", what, s.Code, q)
 	if bytes.Equal(got, root) {
 		t.Errorf("P11.2: Climb, %v, tree %#x, leaf %v: the root", what, s.Code, q)
 	}
@@ -222,8 +222,8 @@ func elsewhere(t *testing.T, s api.Tree, root, name []byte, q int, key []byte, w
 
 // P11.2: another key, another way, another leaf's number, and another name lead elsewhere.
 func TestElsewhere(t *testing.T) {
-	for _, s := range trees(t, 1, 10) {
-		name, keys := rows.Mixed(16, 59), keysOf(s, 60)
+	for _, s := range rows.TreesOf(1, 10) {
+		name, keys := rows.Mixed(16, 59), rows.Keys(s, 60)
 		root := merkle.Root(s, name, keys)
 		qs := edges(s)
 		if s.H == 10 {
@@ -250,7 +250,7 @@ func otherKeys(t *testing.T, s api.Tree, root, name []byte, q int, keys, way [][
 	for i := range key {
 		elsewhere(t, s, root, name, q, rows.Turned(key, i), way, "a byte of the key", i)
 	}
-	for _, k := range [][]byte{nil, key[:s.N-1], key[1:], append(bytes.Clone(key), 0), append([]byte{0}, key...), way[0], root, name, keys[q^1], keys[leaves(s)-1-q]} {
+	for _, k := range [][]byte{nil, key[:s.N-1], key[1:], append(bytes.Clone(key), 0), append([]byte{0}, key...), way[0], root, name, keys[q^1], keys[rows.Leaves(s)-1-q]} {
 		elsewhere(t, s, root, name, q, k, way, "another key, bytes", len(k))
 	}
 }
@@ -289,8 +289,8 @@ func otherLeaves(t *testing.T, s api.Tree, root, name []byte, q int, keys, way [
 
 // P11.2: of keys that are alike each leads to the root by its own number and way alone.
 func TestElsewhereAlike(t *testing.T) {
-	for _, s := range trees(t, 1, 5) {
-		name, keys := rows.Mixed(16, 61), slices.Repeat([][]byte{rows.Mixed(s.N, 62)}, leaves(s))
+	for _, s := range rows.TreesOf(1, 5) {
+		name, keys := rows.Mixed(16, 61), slices.Repeat([][]byte{rows.Mixed(s.N, 62)}, rows.Leaves(s))
 		root := merkle.Root(s, name, keys)
 		for q := range keys {
 			way := merkle.Way(s, name, keys, uint32(q))

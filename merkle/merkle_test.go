@@ -4,7 +4,6 @@ import (
 	"bytes"
 	"crypto/sha256"
 	"crypto/sha3"
-	"encoding/binary"
 	"math"
 	"slices"
 	"strconv"
@@ -16,77 +15,11 @@ import (
 	"tearoff/rows"
 )
 
-// means is what tells the part of a place and a word here, by which trees are put together by hand.
-type means func(t api.Tree, name []byte, place, word int, texts ...[]byte) []byte
-
-// byLayer is layer 9, byOthers are Go's own sums of what is laid out here.
+// byLayer is layer 9, byOthers are Go's own sums.
 var (
-	byLayer means = func(t api.Tree, name []byte, place, word int, texts ...[]byte) []byte {
-		return chain.Part(t.Kind, t.N, name, uint32(place), uint16(word), texts...)
-	}
-	byOthers means = func(t api.Tree, name []byte, place, word int, texts ...[]byte) []byte {
-		b := binary.BigEndian.AppendUint32(bytes.Clone(name), uint32(place))
-		b = binary.BigEndian.AppendUint16(b, uint16(word))
-		b = append(b, bytes.Join(texts, nil)...)
-		if t.Kind == 1 {
-			return sha3.SumSHAKE256(b, t.N)
-		}
-		s := sha256.Sum256(b)
-		return s[:t.N]
-	}
+	byLayer  = rows.Parter(rows.LayerParts)
+	byOthers = rows.PartsBy(sha256.Sum256, sha3.SumSHAKE256)
 )
-
-// places: the sums of all places of a tree, each at its number.
-func (part means) places(t api.Tree, name []byte, keys [][]byte) [][]byte {
-	out := make([][]byte, 2*len(keys))
-	for q, k := range keys {
-		out[len(keys)+q] = part(t, name, len(keys)+q, 0x8282, k)
-	}
-	for r := len(keys) - 1; r >= 1; r-- {
-		out[r] = part(t, name, r, 0x8383, out[2*r], out[2*r+1])
-	}
-	return out
-}
-
-// way: the way of a leaf, by the sums of all places.
-func way(places [][]byte, q int) [][]byte {
-	var out [][]byte
-	for r := len(places)/2 + q; r > 1; r /= 2 {
-		out = append(out, places[r^1])
-	}
-	return out
-}
-
-// trees: those whose height lies between two, of both kinds and sizes. There must be some.
-func trees(t *testing.T, from, to int) []api.Tree {
-	t.Helper()
-	var out []api.Tree
-	for _, s := range rows.Trees() {
-		if s.H >= from && s.H <= to {
-			out = append(out, s)
-		}
-	}
-	if len(out) < 4 {
-		t.Fatalf("%v trees of the heights %v to %v", len(out), from, to)
-	}
-	return out
-}
-
-// leaves: how many a tree has.
-func leaves(s api.Tree) int { return 1 << s.H }
-
-// keysOf: a key for each leaf of a tree, of N bytes, which start marks.
-func keysOf(s api.Tree, start byte) [][]byte { return some(leaves(s), s.N, start) }
-
-// some: that many rows of n bytes, unlike each other, which start marks.
-func some(count, n int, start byte) [][]byte {
-	out := make([][]byte, count)
-	b := rows.Mixed(count*n, start)
-	for i := range out {
-		out[i] = bytes.Clone(b[n*i : n*(i+1)])
-	}
-	return out
-}
 
 // with: a list with another row at a place, in memory of its own.
 func with(list [][]byte, at int, b []byte) [][]byte {
@@ -103,14 +36,6 @@ func expect(t *testing.T, got, want []byte, what ...any) {
 	}
 }
 
-// expectWay tells where a way isn't the one that it must be.
-func expectWay(t *testing.T, got, want [][]byte, what ...any) {
-	t.Helper()
-	if len(want) == 0 || !slices.EqualFunc(got, want, bytes.Equal) {
-		t.Errorf("%v: %v sums, %x, not %v, %x", what, len(got), got, len(want), want)
-	}
-}
-
 // expectTree tells where a tree may not be, where its root or the way of one of these leaves isn't as put together by hand, or where a way doesn't lead to the root.
 func expectTree(t *testing.T, s api.Tree, name []byte, keys [][]byte, qs []int, what string) {
 	t.Helper()
@@ -118,13 +43,13 @@ func expectTree(t *testing.T, s api.Tree, name []byte, keys [][]byte, qs []int, 
 		t.Errorf("P11.1: not May, %v, tree %#x", what, s.Code)
 	}
 	root := merkle.Root(s, name, keys)
-	layers, others := byLayer.places(s, name, keys), byOthers.places(s, name, keys)
+	layers, others := byLayer.Places(s, name, keys), byOthers.Places(s, name, keys)
 	expect(t, root, layers[1], "P11.1: Root", what, s.Code)
 	expect(t, root, others[1], "P11.1: Root", what, s.Code)
 	for _, q := range qs {
 		got := merkle.Way(s, name, keys, uint32(q))
-		expectWay(t, got, way(layers, q), "P11.1: Way", what, s.Code, q)
-		expectWay(t, got, way(others, q), "P11.1: Way", what, s.Code, q)
+		rows.ExpectWay(t, got, rows.Way(layers, q), "P11.1: Way", what, s.Code, q)
+		rows.ExpectWay(t, got, rows.Way(others, q), "P11.1: Way", what, s.Code, q)
 		expect(t, climb(t, s, name, uint32(q), keys[q], got, what), root, "P11.3: Climb", what, s.Code, q)
 	}
 }
@@ -162,7 +87,7 @@ func all(n int) []int {
 
 // edges: the first and the last leaves of a tree, those in its middle, and those with a single bit.
 func edges(s api.Tree) []int {
-	n := leaves(s)
+	n := rows.Leaves(s)
 	out := []int{0, 1, n/2 - 1, n / 2, n - 2, n - 1}
 	for h := range s.H {
 		out = append(out, 1<<h, n-1-1<<h)
@@ -174,21 +99,21 @@ func edges(s api.Tree) []int {
 // P11.1: the chapter's example: of height 1 the root is the part (1, 0x8383) of the sums of the places 2 and 3.
 func TestExample(t *testing.T) {
 	name, left, right := rows.Mixed(16, 1), []byte("the left key"), []byte("the right one")
-	for _, s := range trees(t, 1, 1) {
+	for _, s := range rows.TreesOf(1, 1) {
 		keys := [][]byte{left, right}
 		two := chain.Part(s.Kind, s.N, name, 2, 0x8282, left)
 		three := chain.Part(s.Kind, s.N, name, 3, 0x8282, right)
 		expect(t, merkle.Root(s, name, keys), chain.Part(s.Kind, s.N, name, 1, 0x8383, two, three), "P11.1: Root, of height 1", s.Code)
-		expectWay(t, merkle.Way(s, name, keys, 0), [][]byte{three}, "P11.1: Way, the left one", s.Code)
-		expectWay(t, merkle.Way(s, name, keys, 1), [][]byte{two}, "P11.1: Way, the right one", s.Code)
+		rows.ExpectWay(t, merkle.Way(s, name, keys, 0), [][]byte{three}, "P11.1: Way, the left one", s.Code)
+		rows.ExpectWay(t, merkle.Way(s, name, keys, 1), [][]byte{two}, "P11.1: Way, the right one", s.Code)
 	}
 }
 
 // P11.1: of height 2 the leaves have the places 4 to 7, those above 2 and 3; of each way the sum is first that lies below the same place as the leaf.
 func TestFourLeaves(t *testing.T) {
 	name := rows.Mixed(16, 2)
-	for _, s := range trees(t, 2, 2) {
-		keys := keysOf(s, 3)
+	for _, s := range rows.TreesOf(2, 2) {
+		keys := rows.Keys(s, 3)
 		part := func(place uint32, d uint16, texts ...[]byte) []byte {
 			return chain.Part(s.Kind, s.N, name, place, d, texts...)
 		}
@@ -196,21 +121,21 @@ func TestFourLeaves(t *testing.T) {
 		two, three := part(2, 0x8383, four, five), part(3, 0x8383, six, seven)
 		expect(t, merkle.Root(s, name, keys), part(1, 0x8383, two, three), "P11.1: Root, of height 2", s.Code)
 		for q, want := range [][][]byte{{five, three}, {four, three}, {seven, two}, {six, two}} {
-			expectWay(t, merkle.Way(s, name, keys, uint32(q)), want, "P11.1: Way, of height 2", s.Code, q)
+			rows.ExpectWay(t, merkle.Way(s, name, keys, uint32(q)), want, "P11.1: Way, of height 2", s.Code, q)
 		}
 	}
 }
 
 // P11.1, P11.3: trees of both kinds and sizes, of all heights that may be, with all leaves (of height 10 with -short: some of them).
 func TestTrees(t *testing.T) {
-	for _, s := range trees(t, 1, 10) {
+	for _, s := range rows.TreesOf(1, 10) {
 		t.Run(strconv.FormatUint(uint64(s.Code), 16), func(t *testing.T) {
 			t.Parallel()
-			qs := all(leaves(s))
+			qs := all(rows.Leaves(s))
 			if testing.Short() && s.H == 10 {
 				qs = edges(s)
 			}
-			keys := keysOf(s, 4)
+			keys := rows.Keys(s, 4)
 			expectTree(t, s, rows.Mixed(16, 5), keys, qs, "as they come")
 			expectTree(t, s, rows.Guarded(make([]byte, 16)), keys, edges(s), "a name of noughts")
 			expectTree(t, s, bytes.Repeat([]byte{255}, 16), keys, edges(s), "a name of ones")
@@ -221,7 +146,7 @@ func TestTrees(t *testing.T) {
 // P11.1: the trees that the tests go through are of these heights, of each four: of both kinds and sizes.
 func TestHeights(t *testing.T) {
 	count := map[int]int{}
-	for _, s := range trees(t, 1, 10) {
+	for _, s := range rows.TreesOf(1, 10) {
 		count[s.H]++
 	}
 	for _, h := range []int{1, 2, 3, 4, 5, 10} {
@@ -234,8 +159,8 @@ func TestHeights(t *testing.T) {
 // P11.1: keys may be empty, of unlike lengths, alike, longer than a text may be, with spare room, and share memory.
 func TestKeys(t *testing.T) {
 	name, long := rows.Mixed(16, 6), rows.Mixed(4*api.MaxText, 7)
-	for _, s := range trees(t, 1, 5) {
-		n := leaves(s)
+	for _, s := range rows.TreesOf(1, 5) {
+		n := rows.Leaves(s)
 		for what, key := range map[string]func(q int) []byte{
 			"no keys":                 func(q int) []byte { return nil },
 			"empty keys":              func(q int) []byte { return []byte{} },
@@ -262,7 +187,7 @@ func TestKeys(t *testing.T) {
 			expectTree(t, s, name, keys, all(n), what)
 		}
 	}
-	for _, s := range trees(t, 1, 1) {
+	for _, s := range rows.TreesOf(1, 1) {
 		for _, n := range []int{api.MaxText - 1, api.MaxText, api.MaxText + 1, 3 * api.MaxText} {
 			expectTree(t, s, name, [][]byte{long[:n], long[1 : n+1]}, []int{0, 1}, "long keys")
 		}
@@ -275,8 +200,8 @@ func TestNames(t *testing.T) {
 	for n := range 80 {
 		lengths = append(lengths, n)
 	}
-	for _, s := range trees(t, 1, 5) {
-		keys := keysOf(s, 15)
+	for _, s := range rows.TreesOf(1, 5) {
+		keys := rows.Keys(s, 15)
 		for _, n := range lengths {
 			if n == 16 {
 				expectTree(t, s, rows.Mixed(n, 16), keys, []int{0}, "16 bytes")
@@ -288,8 +213,8 @@ func TestNames(t *testing.T) {
 		}
 		expectNone(t, s, nil, keys, "no name")
 	}
-	for _, s := range trees(t, 10, 10) {
-		keys := keysOf(s, 15)
+	for _, s := range rows.TreesOf(10, 10) {
+		keys := rows.Keys(s, 15)
 		for _, n := range []int{0, 15, 17, 32} {
 			expectNone(t, s, rows.Mixed(n, 16), keys, "bytes of the name", n)
 		}
@@ -299,9 +224,9 @@ func TestNames(t *testing.T) {
 // P11.1: nothing of a key too few, a key too many, no keys at all, or as many as other trees have.
 func TestKeyCounts(t *testing.T) {
 	name := rows.Mixed(16, 17)
-	for _, s := range trees(t, 1, 10) {
-		n := leaves(s)
-		keys := some(1<<11+1, 4, 18)
+	for _, s := range rows.TreesOf(1, 10) {
+		n := rows.Leaves(s)
+		keys := rows.Some(1<<11+1, 4, 18)
 		for _, count := range []int{0, 1, 2, 3, 4, 7, 8, 9, 16, 32, 33, s.H, s.N, n / 2, n - 2, n - 1, n + 1, n + 2, 3 * n / 2, 2*n - 1, 2 * n, min(n+256, 1<<11), 1023, 1025, 1 << 11, 1<<11 + 1} {
 			if count == n {
 				continue
@@ -320,21 +245,21 @@ func TestKeyCounts(t *testing.T) {
 // P11.1: nothing of trees higher than 10, even of as many keys as they have leaves. (Of height 25 with fewer: so many take much memory.)
 func TestTooHigh(t *testing.T) {
 	name := rows.Mixed(16, 19)
-	few := some(1<<10, 24, 20)
-	for _, s := range trees(t, 11, 25) {
+	few := rows.Some(1<<10, 24, 20)
+	for _, s := range rows.TreesOf(11, 25) {
 		for _, n := range []int{0, 1, 2, 32, 1 << 10} {
 			expectNone(t, s, name, few[:n], "keys", n)
 		}
 		if s.H <= 20 {
-			expectNone(t, s, name, make([][]byte, leaves(s)), "as many keys as leaves")
-			expectNone(t, s, name, make([][]byte, leaves(s)+1), "a key too many")
+			expectNone(t, s, name, make([][]byte, rows.Leaves(s)), "as many keys as leaves")
+			expectNone(t, s, name, make([][]byte, rows.Leaves(s)+1), "a key too many")
 		}
 	}
 }
 
 // P11.1: nothing of sets that are none, those that differ from one in a single number among them.
 func TestNoTrees(t *testing.T) {
-	name, keys := rows.Mixed(16, 21), some(1<<10, 24, 22)
+	name, keys := rows.Mixed(16, 21), rows.Some(1<<10, 24, 22)
 	for _, s := range rows.NoTrees() {
 		if slices.Contains(rows.Trees(), s) {
 			t.Fatalf("%+v is a set", s)
@@ -350,8 +275,8 @@ func TestNoTrees(t *testing.T) {
 // P11.1: nothing of leaves beyond the last one, though their numbers wrap, or end, as others do; the root stays.
 func TestNoLeaf(t *testing.T) {
 	name := rows.Mixed(16, 23)
-	for _, s := range trees(t, 1, 10) {
-		n, keys := uint32(leaves(s)), keysOf(s, 24)
+	for _, s := range rows.TreesOf(1, 10) {
+		n, keys := uint32(rows.Leaves(s)), rows.Keys(s, 24)
 		for _, q := range beyond(n) {
 			noWay(t, s, name, keys, q, "beyond")
 		}
@@ -372,12 +297,12 @@ func beyond(n uint32) []uint32 {
 
 // P11.1: the root hangs on each byte of the name and of each key, on where each key stands, and on the set.
 func TestUnlike(t *testing.T) {
-	for _, s := range trees(t, 1, 4) {
-		name, keys := rows.Mixed(16, 25), keysOf(s, 26)
+	for _, s := range rows.TreesOf(1, 4) {
+		name, keys := rows.Mixed(16, 25), rows.Keys(s, 26)
 		seen := map[string][]any{}
 		add := func(s api.Tree, name []byte, keys [][]byte, what ...any) {
 			got := merkle.Root(s, name, keys)
-			expect(t, got, byOthers.root(s, name, keys), "P11.1: Root", what, s.Code)
+			expect(t, got, byOthers.Places(s, name, keys)[1], "P11.1: Root", what, s.Code)
 			if was := seen[string(got)]; was != nil {
 				t.Errorf("P11.1: Root, tree %#x: %v is as %v", s.Code, what, was)
 			}
@@ -399,11 +324,6 @@ func TestUnlike(t *testing.T) {
 		}
 		add(api.Tree{Code: other(s).Code, Kind: other(s).Kind, N: s.N, H: s.H}, name, keys, "of the other kind")
 	}
-}
-
-// root: the sum of the root, put together by hand.
-func (part means) root(t api.Tree, name []byte, keys [][]byte) []byte {
-	return part.places(t, name, keys)[1]
 }
 
 // other: the tree of the other kind, of the same size and height.

@@ -65,7 +65,7 @@ func (f *faults) Helper() {}
 
 func (f *faults) Errorf(string, ...any) { *f++ }
 
-// Expect, Nothing and Unlike tell where rows aren't what they must be, and only there.
+// Expect, Nothing, Unlike and ExpectWay tell where rows aren't what they must be, and only there.
 func TestExpect(t *testing.T) {
 	a, b := []byte("a"), []byte("b")
 	for _, c := range []struct {
@@ -83,6 +83,10 @@ func TestExpect(t *testing.T) {
 		{"Unlike, another", func(t rows.Tester) { rows.Unlike(t, a, b) }, 0},
 		{"Unlike, the same", func(t rows.Tester) { rows.Unlike(t, a, []byte("a")) }, 1},
 		{"Unlike, nothing", func(t rows.Tester) { rows.Unlike(t, nil, a) }, 1},
+		{"ExpectWay, the same", func(t rows.Tester) { rows.ExpectWay(t, [][]byte{a, b}, [][]byte{[]byte("a"), b}) }, 0},
+		{"ExpectWay, another sum", func(t rows.Tester) { rows.ExpectWay(t, [][]byte{a, a}, [][]byte{a, b}) }, 1},
+		{"ExpectWay, a sum too few", func(t rows.Tester) { rows.ExpectWay(t, [][]byte{a}, [][]byte{a, b}) }, 1},
+		{"ExpectWay, of nothing nothing", func(t rows.Tester) { rows.ExpectWay(t, nil, nil) }, 1},
 	} {
 		var got faults
 		if c.tell(&got); got != c.want {
